@@ -1,0 +1,1 @@
+"""Manyleaf: one book that is many books, written through views."""

@@ -1,0 +1,20 @@
+"""Sets of choices: whole numbers from 0 on, in which the choice n has the n-th bit, counted from 0."""
+
+
+def in_set(choices, number):
+    return (choices >> number) & 1 == 1
+
+
+def choices_of(choices):
+    return [number for number in range(choices.bit_length()) if in_set(choices, number)]
+
+
+def size_of(choices):
+    return len(choices_of(choices))
+
+
+def least_choice(choices):
+    for number in range(choices.bit_length()):
+        if in_set(choices, number):
+            return number
+    return None

@@ -1,0 +1,272 @@
+"""The package's files keep to LANGUAGE.md, as far as its rules can be seen in the form of the code.
+
+Not looked at here: how values are kept, handed on and walked (L11, L13, L15, L18, L22 to L24 in part, L28).
+"""
+
+import ast
+import builtins
+import io
+import pathlib
+import re
+import tokenize
+import unittest
+
+PACKAGE = "manyleaf"
+FOLDER = pathlib.Path(__file__).resolve().parent.parent / PACKAGE
+
+OWN_NAMES = set(
+    "len range enumerate zip min max sum abs sorted reversed int str bool list tuple dict set frozenset isinstance"
+    " ord repr any all divmod Exception ValueError TypeError KeyError IndexError LookupError ZeroDivisionError"
+    " ArithmeticError OverflowError RuntimeError NotImplementedError AttributeError StopIteration object".split()
+)
+OWN_METHODS = set(
+    "append clear copy count endswith extend find get index insert isalnum isalpha isdigit islower isspace isupper"
+    " items join keys ljust lower lstrip partition pop remove replace reverse rfind rjust rpartition rsplit rstrip"
+    " setdefault split splitlines startswith strip update upper values zfill bit_length".split()
+)
+DUNDERS = {"__init__", "__eq__", "__repr__", "__str__", "__len__"}
+OUT_ANYWHERE = set("register mro elements open input version_info with_traceback add_note format format_map".split())
+OUT_WORDS = re.compile(
+    r"\b(type|typing|typing_extensions|enum|Enum|IntEnum|StrEnum|Flag|IntFlag|Generic|Protocol|ABC|ABCMeta"
+    r"|namedtuple|NamedTuple|TypedDict|TYPE_CHECKING|abstractmethod)\b|dataclass|overload|contextmanager"
+)
+FILE_NAME = re.compile(r"[a-z][a-z0-9_]*\.py|__init__\.py|__main__\.py")
+OUT_FILES = re.compile(r"test|tests|testing|test_.*|site|conftest|sitecustomize|usercustomize")
+
+STATEMENTS = (ast.Assign, ast.AugAssign, ast.If, ast.While, ast.For, ast.Return, ast.Break, ast.Continue, ast.Pass,
+              ast.Raise, ast.Try, ast.Expr, ast.FunctionDef, ast.ClassDef, ast.ImportFrom)
+EXPRESSIONS = (ast.Constant, ast.List, ast.Tuple, ast.Dict, ast.Set, ast.BinOp, ast.UnaryOp, ast.BoolOp, ast.Compare,
+               ast.IfExp, ast.Call, ast.Attribute, ast.Subscript, ast.Slice, ast.ListComp, ast.JoinedStr,
+               ast.FormattedValue, ast.Name, ast.Lambda)
+
+
+def is_plain(node):
+    if isinstance(node, ast.Constant):
+        return True
+    if isinstance(node, ast.UnaryOp):
+        return isinstance(node.op, ast.USub) and isinstance(node.operand, ast.Constant)
+    if isinstance(node, (ast.List, ast.Tuple)):
+        return all(is_plain(part) for part in node.elts)
+    if isinstance(node, ast.Dict):
+        return all(part is not None and is_plain(part) for part in node.keys + node.values)
+    return isinstance(node, ast.Name)
+
+
+def is_docstring(node):
+    return isinstance(node, ast.Expr) and isinstance(node.value, ast.Constant) and isinstance(node.value.value, str)
+
+
+class Checker:
+    """Reads the files of a package, texts by file names, and gathers (rule, file, line)."""
+
+    def __init__(self, sources):
+        self.faults = []
+        self.trees = {name: ast.parse(text) for name, text in sources.items()}
+        classes = [node for tree in self.trees.values() for node in tree.body if isinstance(node, ast.ClassDef)]
+        self.methods = {part.name for node in classes for part in node.body if isinstance(part, ast.FunctionDef)}
+        for self.file, text in sources.items():
+            self.look_at_text(text)
+            self.look_at_top(self.trees[self.file])
+            for node in ast.walk(self.trees[self.file]):
+                self.look_at_node(node)
+        self.look_for_rings()
+
+    def fault(self, rule, line, bad=True):
+        if bad:
+            self.faults.append((rule, self.file, line))
+
+    def look_at_text(self, text):
+        self.fault("L1", 0, not FILE_NAME.fullmatch(self.file))
+        stem = self.file[:-3]
+        self.fault("L14", 0, OUT_FILES.fullmatch(stem) or stem in vars(builtins) or OUT_WORDS.fullmatch(stem))
+        lines = text.split("\n")
+        self.fault("L10", len(lines), len(lines) > 401)
+        for number, line in enumerate(lines, 1):
+            self.fault("L10", number, len(line) > 120)
+            self.fault("L14", number, any(not " " <= sign <= "~" for sign in line))
+            self.fault("L17", number, OUT_WORDS.search(line))
+        for token in tokenize.generate_tokens(io.StringIO(text).readline):
+            # From Python 3.12 on the inner texts of an f-string are tokens of their own.
+            if tokenize.tok_name[token.type] in ("STRING", "FSTRING_MIDDLE"):
+                rest = token.string.replace("\\\\", "")
+                self.fault("L27", token.start[0], "%" in rest or re.search(r"\\[^nt'\"]", rest))
+
+    def look_at_top(self, tree):
+        bound = []
+        for place, node in enumerate(tree.body):
+            if isinstance(node, (ast.FunctionDef, ast.ClassDef)):
+                bound.append(node.name)
+            elif isinstance(node, ast.ImportFrom):
+                bound += [alias.asname or alias.name for alias in node.names]
+            elif isinstance(node, ast.Assign):
+                self.fault("L3", node.lineno, not isinstance(node.targets[0], ast.Name) or not is_plain(node.value))
+                bound += [target.id for target in node.targets if isinstance(target, ast.Name)]
+            else:
+                self.fault("L3", node.lineno, not (place == 0 and is_docstring(node)))
+        self.fault("L15", 0, len(bound) != len(set(bound)))
+
+    def look_at_node(self, node):
+        if isinstance(node, ast.stmt):
+            self.look_at_statement(node)
+        if isinstance(node, ast.expr):
+            self.look_at_expression(node)
+        if isinstance(node, (ast.FunctionDef, ast.Lambda)):
+            self.look_at_function(node)
+        if isinstance(node, ast.ClassDef):
+            self.look_at_class(node)
+        if isinstance(node, ast.ImportFrom):
+            self.look_at_import(node)
+        if isinstance(node, ast.ExceptHandler):
+            named = node.type is not None
+            self.fault("L6", node.lineno, not named)
+            self.fault("L19", node.lineno, named and ast.unparse(node.type) in ("Exception", "TypeError"))
+        if isinstance(node, ast.comprehension):
+            self.fault("L7", 0, len(node.ifs) > 1 or node.is_async)
+
+    def look_at_statement(self, node):
+        top = self.trees[self.file].body
+        self.fault("L6", node.lineno, not isinstance(node, STATEMENTS))
+        self.fault("L6", node.lineno, isinstance(node, (ast.For, ast.While)) and node.orelse)
+        self.fault("L6", node.lineno, isinstance(node, ast.Try) and node.finalbody)
+        self.fault("L6", node.lineno, isinstance(node, ast.Assign) and len(node.targets) != 1)
+        self.fault("L15", node.lineno, isinstance(node, ast.ClassDef) and node not in top)
+        self.fault("L2", node.lineno, isinstance(node, ast.ImportFrom) and node not in top)
+        if isinstance(node, ast.Expr):
+            is_head = node is top[0] and is_docstring(node)
+            self.fault("L6", node.lineno, not isinstance(node.value, ast.Call) and not is_head)
+
+    def look_at_expression(self, node):
+        line = node.lineno
+        self.fault("L7", line, not isinstance(node, EXPRESSIONS))
+        if isinstance(node, ast.Constant):
+            kinds = (int, str, bool, type(None))
+            self.fault("L7", line, not isinstance(node.value, kinds) and node.value is not Ellipsis)
+        if isinstance(node, ast.ListComp):
+            self.fault("L7", line, len(node.generators) != 1)
+        if isinstance(node, ast.FormattedValue):
+            self.fault("L7", line, not isinstance(node.value, ast.Name) or node.format_spec is not None)
+        if isinstance(node, ast.BinOp):
+            self.fault("L7", line, isinstance(node.op, (ast.Div, ast.MatMult)))
+            if isinstance(node.op, ast.Pow):
+                written = isinstance(node.right, ast.Constant) and node.right.value in range(65)
+                self.fault("L27", line, not written)
+        if isinstance(node, ast.Compare):
+            for operator, other in zip(node.ops, node.comparators):
+                alone = isinstance(other, ast.Constant) and any(other.value is one for one in (None, True, False))
+                self.fault("L20", line, isinstance(operator, (ast.Is, ast.IsNot)) and not alone)
+        if isinstance(node, ast.Name):
+            self.look_at_name(node.id, line)
+            python_own = node.id in vars(builtins)
+            self.fault("L8", line, python_own and node.id not in OWN_NAMES)
+            self.fault("L15", line, python_own and isinstance(node.ctx, ast.Store))
+        if isinstance(node, ast.Attribute):
+            self.look_at_name(node.attr, line)
+        if isinstance(node, ast.Call) and isinstance(node.func, ast.Attribute):
+            self.fault("L25", line, node.func.attr not in OWN_METHODS | self.methods | DUNDERS)
+
+    def look_at_name(self, name, line):
+        self.fault("L12", line, (name.startswith("_") and name not in DUNDERS) or not name.isascii())
+        self.fault("L17", line, name in OUT_ANYWHERE)
+
+    def look_at_function(self, node):
+        given = node.args
+        self.fault("L4", node.lineno, given.vararg or given.kwarg or given.kwonlyargs or given.posonlyargs)
+        self.fault("L4", node.lineno, not all(is_plain(value) for value in given.defaults))
+        for parameter in given.args:
+            self.look_at_name(parameter.arg, node.lineno)
+            self.fault("L15", node.lineno, parameter.arg in vars(builtins))
+        if isinstance(node, ast.FunctionDef):
+            self.look_at_name(node.name, node.lineno)
+            self.fault("L4", node.lineno, node.decorator_list)
+            self.fault("L10", node.lineno, node.end_lineno - node.lineno + 1 > 40)
+
+    def look_at_class(self, node):
+        self.look_at_name(node.name, node.lineno)
+        self.fault("L5", node.lineno, len(node.bases) > 1 or node.keywords or node.decorator_list)
+        for part in node.body:
+            self.fault("L5", part.lineno, not isinstance(part, (ast.FunctionDef, ast.Pass)))
+        names = [part.name for part in node.body if isinstance(part, ast.FunctionDef)]
+        self.fault("L18", node.lineno, len(names) != len(set(names)))
+        for part in ast.walk(node):
+            if isinstance(part, ast.Attribute) and isinstance(part.ctx, ast.Store):
+                self.fault("L18", part.lineno, part.attr in self.methods)
+
+    def look_at_import(self, node):
+        if node.module == "__future__":
+            return
+        package, point, stem = (node.module or "").partition(".")
+        file = stem + ".py"
+        self.fault("L2", node.lineno, node.level or package != PACKAGE or file not in self.trees)
+        for alias in node.names:
+            top = self.trees[file].body if file in self.trees else []
+            defined = [part.name for part in top if isinstance(part, (ast.FunctionDef, ast.ClassDef))]
+            defined += [part.targets[0].id for part in top if isinstance(part, ast.Assign)]
+            self.fault("L16", node.lineno, alias.name not in defined)
+
+    def drawn_from(self, file):
+        rows = [node for node in self.trees[file].body if isinstance(node, ast.ImportFrom)]
+        return {(node.module or "").partition(".")[2] + ".py" for node in rows} & set(self.trees)
+
+    def look_for_rings(self):
+        for self.file in self.trees:
+            reached, fresh = set(), self.drawn_from(self.file)
+            while fresh:
+                reached |= fresh
+                fresh = {far for near in fresh for far in self.drawn_from(near)} - reached
+            self.fault("L16", 0, self.file in reached)
+
+
+def faults_of(sources):
+    return Checker(sources).faults
+
+
+class ThePackage(unittest.TestCase):
+    def test_its_files_keep_to_the_rules(self):
+        sources = {path.name: path.read_text(encoding="utf-8") for path in FOLDER.glob("*.py")}
+        self.assertIn("__init__.py", sources)
+        self.assertEqual(faults_of(sources), [])
+
+    def test_nothing_else_lies_in_it(self):
+        others = [path.name for path in FOLDER.iterdir() if path.suffix != ".py" and path.name != "__pycache__"]
+        self.assertEqual(others, [])
+
+
+class TheChecker(unittest.TestCase):
+    def test_what_is_outside_the_rules_is_found(self):
+        samples = {
+            "import sys\n": "L6", "from os import path\n": "L2", "from manyleaf.b import nothing\n": "L16",
+            "x = len('a')\n": "L3", "print(1)\n": "L3", "x = 1\nx = 2\n": "L15",
+            "def f(*a):\n    return a\n": "L4", "def f(a=len('')):\n    return a\n": "L4",
+            "class A:\n    x = 1\n": "L5", "class A(ValueError, KeyError):\n    pass\n": "L5",
+            "def f():\n    'told'\n": "L6", "def f(a):\n    x = y = a\n": "L6", "def f(a):\n    assert a\n": "L6",
+            "def f(a):\n    for x in a:\n        pass\n    else:\n        return 1\n": "L6",
+            "def f(a):\n    try:\n        g()\n    except Exception:\n        pass\n": "L19",
+            "def f(a):\n    return all(x for x in a)\n": "L7", "x = 1.5\n": "L7", "def f(a):\n    return a / 2\n": "L7",
+            "def f(a):\n    return {x: 1 for x in a}\n": "L7", "def f(a):\n    return f'{a.b}'\n": "L7",
+            "def f(a):\n    return bin(a)\n": "L8", "def f(a):\n    return chr(a)\n": "L8",
+            "x = 1" + " " * 120 + "\n": "L10", "def f(a):\n" + "    a = 1\n" * 40: "L10", "\n" * 401: "L10",
+            "def f_(a):\n    _b = a\n": "L12", "x = 'caf\xe9'\n": "L14", "\t\n": "L14",
+            "def f(set):\n    return 1\n": "L15", "def f(a):\n    len = a\n": "L15", "# its type\n": "L17",
+            "class A:\n    def go(self):\n        self.go = 1\n": "L18", "def f(a):\n    return a is 1\n": "L20",
+            "def f(a):\n    return a.bit_count()\n": "L25", "x = '100%'\n": "L27", "x = '\\x41'\n": "L27",
+            "def f(a):\n    return f'{a}%'\n": "L27",
+            "def f(n):\n    return 2 ** n\n": "L27",
+        }
+        for text, rule in samples.items():
+            with self.subTest(text):
+                found = faults_of({"a.py": text, "b.py": "x = 1\n"})
+                self.assertIn(rule, [fault[0] for fault in found])
+
+    def test_files_that_draw_from_one_another_are_found(self):
+        sources = {"a.py": "from manyleaf.b import f\n\n\ndef g():\n    return f()\n",
+                   "b.py": "from manyleaf.a import g\n\n\ndef f():\n    return g()\n"}
+        self.assertEqual(faults_of(sources), [("L16", "a.py", 0), ("L16", "b.py", 0)])
+
+    def test_files_of_other_names_are_found(self):
+        for name, rule in (("A.py", "L1"), ("a-b.py", "L1"), ("tests.py", "L14"), ("filter.py", "L14")):
+            with self.subTest(name):
+                self.assertEqual(faults_of({name: "x = 1\n"}), [(rule, name, 0)])
+
+
+if __name__ == "__main__":
+    unittest.main()

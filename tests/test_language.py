@@ -1,6 +1,6 @@
 """The package's files keep to LANGUAGE.md, as far as its rules can be seen in the form of the code.
 
-Not looked at here: how values are kept, handed on and walked (L11, L13, L15, L18, L22 to L24 in part, L28).
+Not looked at here: L11, L13, L21 to L24, L26 and L28; in part alone: L15, L16, L17, L18, L19 and L27.
 """
 
 import ast

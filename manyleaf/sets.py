@@ -18,3 +18,10 @@ def least_choice(choices):
         if in_set(choices, number):
             return number
     return None
+
+
+def set_of(numbers):
+    choices = 0
+    for number in numbers:
+        choices = choices | (1 << number)
+    return choices

@@ -1,6 +1,7 @@
 """Whether a thing, of whatever kind, is a whole number, a word, a part's name, a text or a rank."""
 
 GREATEST_RANK = 1000000000
+LONGEST_TEXT = 60
 
 # By its number, as the sign itself does not stand in a text of the program.
 PERCENT_SIGN = 37
@@ -19,7 +20,7 @@ def is_name(thing):
 
 
 def is_text(thing):
-    return has_length(thing, 0, 60) and all([is_text_sign(sign) for sign in thing])
+    return has_length(thing, 0, LONGEST_TEXT) and all([is_text_sign(sign) for sign in thing])
 
 
 def is_rank(thing):

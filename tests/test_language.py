@@ -1,6 +1,6 @@
 """The package's files keep to LANGUAGE.md, as far as its rules can be seen in the form of the code.
 
-Not looked at here: L11, L13, L21 to L24, L26 and L28; in part alone: L15, L16, L17, L18, L19 and L27.
+Not looked at here: L11 and what L23 says of changes in a loop; in part alone: L15 to L19, L24, L26, L27 and L28.
 """
 
 import ast
@@ -25,6 +25,21 @@ OWN_METHODS = set(
     " setdefault split splitlines startswith strip update upper values zfill bit_length".split()
 )
 DUNDERS = {"__init__", "__eq__", "__repr__", "__str__", "__len__"}
+OUT_NAMES = set(
+    "attrgetter breakpoint builtins compile copyright credits delattr dir eval exec exit gc getattr globals hasattr"
+    " help id importlib license locals methodcaller os quit setattr super type vars sys".split()
+)
+OWN_CLASSES = {"int", "str", "bool", "list", "tuple", "dict"}
+OWN_KEYS = {"len", "int", "str", "abs", "sum", "min", "max", "tuple"}
+OWN_KEYWORDS = {"sorted": {"key", "reverse"}, "min": {"key", "default"}, "max": {"key", "default"}, "sum": {"start"},
+                "enumerate": {"start"}, "zip": {"strict"}}
+WALKED = {"zip", "enumerate", "reversed", "range"}
+WALKERS = {"list", "tuple", "dict", "sorted", "sum", "any", "all", "enumerate", "zip", "min", "max"}
+READERS = {"get", "items", "keys", "values", "index", "count", "copy"}
+PYTHON_NAMES = {name for kind in (str, int, list, tuple, dict, set, frozenset, bytes) for name in dir(kind)}
+OUT_VALUES = set("items keys values pop update append clear extend insert remove reverse setdefault sort args encode"
+                 " format".split())
+FREE_VALUES = set("count index title find get join lower upper split strip copy add".split())
 OUT_ANYWHERE = set("register mro elements open input version_info with_traceback add_note format format_map".split())
 OUT_WORDS = re.compile(
     r"\b(type|typing|typing_extensions|enum|Enum|IntEnum|StrEnum|Flag|IntFlag|Generic|Protocol|ABC|ABCMeta"
@@ -67,6 +82,7 @@ class Checker:
         for self.file, text in sources.items():
             self.look_at_text(text)
             self.look_at_top(self.trees[self.file])
+            self.look_around(self.trees[self.file])
             for node in ast.walk(self.trees[self.file]):
                 self.look_at_node(node)
         self.look_for_rings()
@@ -119,7 +135,10 @@ class Checker:
         if isinstance(node, ast.ExceptHandler):
             named = node.type is not None
             self.fault("L6", node.lineno, not named)
-            self.fault("L19", node.lineno, named and ast.unparse(node.type) in ("Exception", "TypeError"))
+            python_own = named and any(part in vars(builtins) for part in re.findall(r"\w+", ast.unparse(node.type)))
+            self.fault("L19", node.lineno, python_own and ast.unparse(node.type) != "KeyError")
+        if isinstance(node, ast.Raise):
+            self.fault("L19", node.lineno, not isinstance(node.exc, ast.Call))
         if isinstance(node, ast.comprehension):
             self.fault("L7", 0, len(node.ifs) > 1 or node.is_async)
 
@@ -164,6 +183,79 @@ class Checker:
         if isinstance(node, ast.Call) and isinstance(node.func, ast.Attribute):
             self.fault("L25", line, node.func.attr not in OWN_METHODS | self.methods | DUNDERS)
 
+    def look_around(self, tree):
+        """What hangs on where a thing stands."""
+        self.above = {below: node for node in ast.walk(tree) for below in ast.iter_child_nodes(node)}
+        top = tree.body
+        self.classes = {node.name for node in top if isinstance(node, ast.ClassDef)}
+        drawn = {alias.asname or alias.name for node in top if isinstance(node, ast.ImportFrom) for alias in node.names}
+        self.classes |= {name for name in drawn if name[0].isupper() and not name.isupper()}
+        self.kept = {node.targets[0].id for node in top
+                     if isinstance(node, ast.Assign) and isinstance(node.value, (ast.List, ast.Dict))}
+        for node in top:
+            held = ast.walk(node.value) if isinstance(node, ast.Assign) else []
+            self.fault("L15", node.lineno, sum(isinstance(part, (ast.List, ast.Dict)) for part in held) > 1)
+        for node in ast.walk(tree):
+            if isinstance(node, ast.Name) and isinstance(node.ctx, ast.Store) and self.above[node] not in top:
+                self.fault("L15", node.lineno, node.id in self.classes | drawn)
+            if isinstance(node, ast.arg):
+                self.fault("L15", node.lineno, node.arg in self.classes | drawn)
+                self.fault("L21", node.lineno, node.annotation)
+            if isinstance(node, ast.Name) and isinstance(node.ctx, ast.Load):
+                self.look_at_use(node)
+            if isinstance(node, ast.Call):
+                self.look_at_call(node)
+            if isinstance(node, ast.Attribute):
+                self.look_at_value(node)
+        for number, line in enumerate(ast.unparse(tree).split("\n")):
+            self.fault("L13", number, len(re.findall(r"lambda ([^:]*):", line)) > 1)
+
+    def look_at_use(self, node):
+        above = self.above[node]
+        called = isinstance(above, ast.Call) and above.func is node
+        in_isinstance = isinstance(above, ast.Call) and ast.unparse(above.func) == "isinstance"
+        outer = self.above[above] if isinstance(above, ast.Tuple) else None
+        in_isinstance |= isinstance(outer, ast.Call) and ast.unparse(outer.func) == "isinstance"
+        if node.id in self.classes:
+            held = isinstance(above, (ast.ExceptHandler, ast.ClassDef)) or isinstance(outer, ast.ExceptHandler)
+            first = isinstance(above, ast.Attribute) and above.attr == "__init__"
+            self.fault("L18", node.lineno, not (called or held or in_isinstance or first))
+        elif node.id in self.kept:
+            read = isinstance(above, (ast.Compare, ast.For, ast.comprehension))
+            read |= isinstance(above, ast.Subscript) and isinstance(above.ctx, ast.Load) and above.value is node
+            read |= isinstance(above, ast.Attribute) and above.attr in READERS
+            read |= isinstance(above, ast.Call) and ast.unparse(above.func) in OWN_NAMES and not called
+            self.fault("L15", node.lineno, not read)
+        elif node.id in OWN_NAMES and not called and not node.id.endswith(("Error", "Exception")):
+            is_key = isinstance(above, ast.keyword) and above.arg == "key" and node.id in OWN_KEYS
+            self.fault("L22", node.lineno, not is_key and not (in_isinstance and node.id in OWN_CLASSES))
+        self.fault("L17", node.lineno, node.id in OUT_NAMES)
+
+    def look_at_call(self, node):
+        name = ast.unparse(node.func)
+        method = isinstance(node.func, ast.Attribute)
+        own = name in OWN_NAMES or name in self.classes or (method and node.func.attr in OWN_METHODS)
+        allowed = OWN_KEYWORDS.get(name, set())
+        self.fault("L22", node.lineno, own and any(part.arg not in allowed for part in node.keywords))
+        above = self.above[node]
+        if name in WALKED or (method and node.func.attr in ("items", "keys", "values")):
+            walked = isinstance(above, (ast.For, ast.comprehension)) and above.iter is node
+            walker = ast.unparse(above.func) if isinstance(above, ast.Call) and above.args[:1] == [node] else ""
+            walked |= walker in WALKERS and (walker not in ("min", "max") or len(above.args) == 1)
+            self.fault("L23", node.lineno, not walked)
+        if name in ("set", "frozenset"):
+            around = ast.unparse(above.func) if isinstance(above, ast.Call) else ""
+            self.fault("L24", node.lineno, not isinstance(above, ast.Compare) and around not in ("sorted", "len"))
+
+    def look_at_value(self, node):
+        above = self.above[node]
+        called = isinstance(above, ast.Call) and above.func is node
+        is_key = isinstance(above, ast.keyword) and above.arg == "key"
+        if node.attr in self.methods | OWN_METHODS - FREE_VALUES:
+            self.fault("L25", node.lineno, not called and not is_key)
+        if isinstance(node.ctx, ast.Store):
+            self.fault("L26", node.lineno, node.attr in PYTHON_NAMES - FREE_VALUES or node.attr in OUT_VALUES)
+
     def look_at_name(self, name, line):
         self.fault("L12", line, (name.startswith("_") and name not in DUNDERS) or not name.isascii())
         self.fault("L17", line, name in OUT_ANYWHERE)
@@ -178,6 +270,9 @@ class Checker:
         if isinstance(node, ast.FunctionDef):
             self.look_at_name(node.name, node.lineno)
             self.fault("L4", node.lineno, node.decorator_list)
+            self.fault("L21", node.lineno, node.returns)
+            given_back = [part for part in ast.walk(node) if isinstance(part, ast.Return) and part.value is not None]
+            self.fault("L28", node.lineno, node.name == "__init__" and given_back)
             self.fault("L10", node.lineno, node.end_lineno - node.lineno + 1 > 40)
 
     def look_at_class(self, node):
@@ -187,6 +282,8 @@ class Checker:
             self.fault("L5", part.lineno, not isinstance(part, (ast.FunctionDef, ast.Pass)))
         names = [part.name for part in node.body if isinstance(part, ast.FunctionDef)]
         self.fault("L18", node.lineno, len(names) != len(set(names)))
+        out = PYTHON_NAMES - OWN_METHODS - DUNDERS - {"add", "discard"}
+        self.fault("L26", node.lineno, any(name in out for name in names))
         for part in ast.walk(node):
             if isinstance(part, ast.Attribute) and isinstance(part.ctx, ast.Store):
                 self.fault("L18", part.lineno, part.attr in self.methods)
@@ -251,6 +348,20 @@ class TheChecker(unittest.TestCase):
             "def f(a):\n    return a.bit_count()\n": "L25", "x = '100%'\n": "L27", "x = '\\x41'\n": "L27",
             "def f(a):\n    return f'{a}%'\n": "L27",
             "def f(n):\n    return 2 ** n\n": "L27",
+            "def f(a):\n    return (lambda x: x, lambda x: a)\n": "L13", "x = [[1]]\n": "L15",
+            "x = [1]\n\n\ndef f():\n    return x\n": "L15", "x = []\n\n\ndef f():\n    x.append(1)\n": "L15",
+            "class A:\n    pass\n\n\ndef f(A):\n    return 1\n": "L15",
+            "from manyleaf.b import x\n\n\ndef f():\n    x = 2\n    return x\n": "L15",
+            "def f(a):\n    return vars(a)\n": "L17",
+            "class A:\n    pass\n\n\ndef f():\n    return [A]\n": "L18",
+            "def f(a):\n    raise a\n": "L19", "def f():\n    try:\n        g()\n    except ValueError:\n        pass\n": "L19",
+            "def f(a: int):\n    return a\n": "L21", "def f(a):\n    return g(len, a)\n": "L22",
+            "def f(a):\n    return a.split(sep=' ')\n": "L22", "def f(a):\n    x = zip(a, a)\n    return x\n": "L23",
+            "def f(a):\n    return g(range(3))\n": "L23", "def f(a):\n    x = set(a)\n    return x\n": "L24",
+            "def f(a):\n    return g(a.append)\n": "L25",
+            "class A:\n    def sort(self):\n        return 1\n": "L26",
+            "class A:\n    def __init__(self):\n        self.keys = 1\n": "L26",
+            "class A:\n    def __init__(self):\n        return None\n": "L28",
         }
         for text, rule in samples.items():
             with self.subTest(text):

@@ -25,3 +25,11 @@ def set_of(numbers):
     for number in numbers:
         choices = choices | (1 << number)
     return choices
+
+
+# Each thing once, with all choices that have it; the things in the order in which they first come.
+def grouped(pairs):
+    sets = {}
+    for choices, thing in pairs:
+        sets[thing] = sets.get(thing, 0) | choices
+    return [(sets[thing], thing) for thing in sets]

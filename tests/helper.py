@@ -2,6 +2,8 @@
 
 import itertools
 
+from manyleaf import errors
+from manyleaf.book import gathered
 from manyleaf.panel import Panel
 from manyleaf.plain import Plain
 
@@ -111,6 +113,17 @@ def plain_of(records):
     return plain
 
 
+def drawn_book(rng, panel, names=NAMES, most=6):
+    """A few plain books that are near to one another, spread over the choices."""
+    base = drawn_plain(rng, names, most)
+    plains = [base] + [changed(rng, base, names) for _ in range(rng.randint(0, 4))]
+    rows = {}
+    for number in members_of(panel.allowed()):
+        place = rng.randrange(len(plains))
+        rows[place] = rows.get(place, 0) | 2 ** number
+    return gathered(panel, [(choices, plains[place]) for place, choices in rows.items()])
+
+
 def changed(rng, plain, names=NAMES):
     after = plain.copied()
     for _ in range(rng.randint(1, 3)):
@@ -141,3 +154,108 @@ def made_change(rng, plain, names):
 
 def holders_of(plain):
     return [""] + [name for name in plain.names() if plain.kind_of(name) == "chapter"]
+
+
+def drawn_told(rng, names=NAMES):
+    """The tuple of an edit, often one that a book of these names does not refuse."""
+    name, other = rng.choice(names), rng.choice(names)
+    parent = rng.choice(["", other, other, other])
+    number = rng.choice([0, 0, 0, 1, 1, 2, 3, 59, 60])
+    word = rng.choice(["put", "put", "write", "splice", "cell", "addrow", "cutrow", "cut", "move", "move", "wrap"])
+    if word == "put":
+        kind = rng.choice(["chapter", "chapter", "para", "table"])
+        return (word, name, kind, parent, rng.choice(RANKS), drawn_content(rng, kind))
+    if word == "addrow":
+        return (word, name, number, tuple(rng.choice(TEXTS) for _ in range(rng.randint(1, 3))))
+    things = {
+        "write": (rng.choice(TEXTS),), "splice": (number, rng.choice([0, 0, 1, 2]), rng.choice(TEXTS)),
+        "cell": (number, rng.choice([0, 0, 1, 2]), rng.choice(TEXTS)), "cutrow": (number,), "cut": (),
+        "move": (parent, rng.choice(RANKS)), "wrap": (other, rng.choice(TEXTS)),
+    }
+    return (word, name) + things[word]
+
+
+def about_of(told):
+    return told[3] if told[0] == "put" else told[1]
+
+
+def reckoned(records, told):
+    """Points 35 and 36 by their words: the records that come, or (error class, part) where it is refused."""
+    refusal = first_refusal(records, told)
+    if refusal is not None:
+        return refusal
+    after = dict(records)
+    word, part = told[0], told[1]
+    kind, parent, rank, content = records.get(part, (None,) * 4)
+    if word == "put":
+        after[part] = (told[2], told[3], told[4], told[5])
+    elif word == "write":
+        after[part] = (kind, parent, rank, told[2])
+    elif word == "splice":
+        signs = list(content)
+        signs[told[2]:told[2] + told[3]] = list(told[4])
+        after[part] = (kind, parent, rank, "".join(signs))
+    elif word == "cell":
+        rows = [list(row) for row in content]
+        rows[told[2]][told[3]] = told[4]
+        after[part] = (kind, parent, rank, tuple(tuple(row) for row in rows))
+    elif word == "addrow":
+        rows = list(content)
+        rows.insert(told[2], told[3])
+        after[part] = (kind, parent, rank, tuple(rows))
+    elif word == "cutrow":
+        rows = list(content)
+        rows.pop(told[2])
+        after[part] = (kind, parent, rank, tuple(rows))
+    elif word == "cut":
+        after = {name: record for name, record in records.items() if part not in path_of(records, name)}
+    elif word == "move":
+        after[part] = (kind, told[2], told[3], content)
+    else:
+        after[told[2]] = ("chapter", parent, rank, told[3])
+        after[part] = (kind, told[2], 0, content)
+    return after
+
+
+def path_of(records, name):
+    path = []
+    while name != "":
+        path.append(name)
+        name = records[name][1]
+    return path
+
+
+def first_refusal(records, told):
+    word, part = told[0], told[1]
+    about = about_of(told)
+    if about != "" and about not in records:
+        return (errors.NoPart, about)
+    kind, content = (records[part][0], records[part][3]) if part in records else (None, None)
+    due = []
+    if word == "put":
+        due += [(errors.Doubled, part)] if part in records else []
+        due += [(errors.NoHolder, about)] if about != "" and records[about][0] != "chapter" else []
+    elif word in ("write", "splice"):
+        if kind == "table":
+            return (errors.WrongKind, part)
+        if word == "splice":
+            due += [(errors.Far, part)] if told[2] + told[3] > len(content) else []
+            due += [(errors.TooLong, part)] if len(content) - told[3] + len(told[4]) > 60 else []
+    elif word in ("cell", "addrow", "cutrow"):
+        if kind != "table":
+            return (errors.WrongKind, part)
+        far = {
+            "cell": lambda: told[2] >= len(content) or told[3] >= len(content[0]),
+            "addrow": lambda: told[2] > len(content) or len(told[3]) != len(content[0]),
+            "cutrow": lambda: told[2] >= len(content) or len(content) < 2,
+        }
+        due += [(errors.Far, part)] if far[word]() else []
+        due += [(errors.TooLong, part)] if word == "addrow" and len(content) == 6 else []
+    elif word == "move":
+        if told[2] != "" and told[2] not in records:
+            return (errors.Lost, told[2])
+        due += [(errors.Ring, part)] if part in path_of(records, told[2]) else []
+        due += [(errors.NoHolder, told[2])] if told[2] != "" and records[told[2]][0] != "chapter" else []
+    elif word == "wrap":
+        due += [(errors.Doubled, told[2])] if told[2] in records else []
+    return due[0] if due else None

@@ -2,7 +2,7 @@
 
 from manyleaf.errors import NoChoice, NoPart
 from manyleaf.plain import Plain
-from manyleaf.sets import grouped, in_set, least_choice
+from manyleaf.sets import grouped, in_order, in_set, union_of
 from manyleaf.words import is_whole
 
 
@@ -30,10 +30,7 @@ class Book:
         return sorted(names)
 
     def where(self, name):
-        having = 0
-        for choices, plain in self.rows_with(name):
-            having = having | choices
-        return having
+        return union_of([choices for choices, plain in self.rows_with(name)])
 
     def places(self, name):
         return grouped([(choices, plain.state(name)[:3]) for choices, plain in self.rows_with(name)])
@@ -58,11 +55,8 @@ class Book:
         there = self.row_of(number)[1]
         if not there.has(name):
             raise NoPart(name, number)
-        same = 0
-        for choices, plain in self.kept:
-            if plain.has(name) and plain.state(name) == there.state(name):
-                same = same | choices
-        return same
+        record = there.state(name)
+        return union_of([choices for choices, plain in self.rows_with(name) if plain.state(name) == record])
 
     def beneath(self, name):
         found = {}
@@ -91,5 +85,4 @@ def kept_rows(allowed, rows):
             key = plain.value_key()
             sets[key] = sets.get(key, 0) | (choices & allowed)
             plains[key] = plain
-    kept = [(sets[key], plains[key].copied()) for key in sets]
-    return sorted(kept, key=lambda row: least_choice(row[0]))
+    return in_order([(sets[key], plains[key].copied()) for key in sets])

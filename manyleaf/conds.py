@@ -1,7 +1,7 @@
 """Conditions: texts that tell sets of choices, read, and told with as few switches as can be."""
 
 from manyleaf.errors import BadCond
-from manyleaf.sets import choices_of, least_choice
+from manyleaf.sets import choices_of, least_choice, union_of
 
 ALL = "*"
 NONE = "-"
@@ -14,10 +14,7 @@ def read_cond(panel, text):
         return panel.all_choices()
     if text == NONE:
         return 0
-    choices = 0
-    for box in text.split("|"):
-        choices = choices | panel.box(read_box(box))
-    return choices
+    return union_of([panel.box(read_box(box)) for box in text.split("|")])
 
 
 def read_box(text):

@@ -1,7 +1,7 @@
 """Panels: the switches with their settings, the numbers of the choices, and the rules that bar some of them."""
 
 from manyleaf.errors import BadCond, BadPanel, NoChoice
-from manyleaf.sets import in_set, set_of
+from manyleaf.sets import in_set, set_of, union_of
 from manyleaf.words import is_whole, is_word
 
 MOST_SWITCHES = 5
@@ -19,7 +19,7 @@ class Panel:
         self.sets = sets_of_settings(self.settings, self.tuples)
         self.kept_rules = self.read_rules(rules)
         self.bars = [self.box(rule) for rule in self.kept_rules]
-        self.free = without(self.all_choices(), self.bars)
+        self.free = self.all_choices() & ~union_of(self.bars)
         if self.free == 0:
             raise NoChoice("the rules bar every choice")
 
@@ -83,12 +83,9 @@ class Panel:
             raise BadCond("there is no such switch")
         if not are_unlike_words(settings) or settings == []:
             raise BadCond("this is no list of settings")
-        choices = 0
-        for setting in settings:
-            if setting not in self.sets[word]:
-                raise BadCond("the switch has no such setting")
-            choices = choices | self.sets[word][setting]
-        return choices
+        if not all([setting in self.sets[word] for setting in settings]):
+            raise BadCond("the switch has no such setting")
+        return union_of([self.sets[word][setting] for setting in settings])
 
     # The choices parted by the settings of one switch, in the order of these.
     def parted(self, word):
@@ -154,13 +151,6 @@ def sets_of_settings(settings, tuples):
             having = [number for number, told in enumerate(tuples) if told[place] == setting]
             sets[word][setting] = set_of(having)
     return sets
-
-
-def without(choices, bars):
-    left = choices
-    for bar in bars:
-        left = left & ~bar
-    return left
 
 
 def copied_rule(rule):

@@ -54,9 +54,9 @@ class Plain:
         found = []
         waiting = [(1, below) for below in reversed(unders.get(name, []))]
         while waiting != []:
-            depth, below = waiting.pop()
-            found.append((depth, below))
-            waiting.extend([(depth + 1, deeper) for deeper in reversed(unders.get(below, []))])
+            line = waiting.pop()
+            found.append(line)
+            waiting.extend([(line[0] + 1, deeper) for deeper in reversed(unders.get(line[1], []))])
         return found
 
     def all_unders(self):

@@ -27,9 +27,21 @@ def set_of(numbers):
     return choices
 
 
+def union_of(sets):
+    choices = 0
+    for one in sets:
+        choices = choices | one
+    return choices
+
+
 # Each thing once, with all choices that have it; the things in the order in which they first come.
 def grouped(pairs):
     sets = {}
     for choices, thing in pairs:
         sets[thing] = sets.get(thing, 0) | choices
     return [(sets[thing], thing) for thing in sets]
+
+
+# Pairs of a set and a thing, by the least choice of the set.
+def in_order(pairs):
+    return sorted(pairs, key=lambda pair: least_choice(pair[0]))

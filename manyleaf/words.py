@@ -2,6 +2,7 @@
 
 GREATEST_RANK = 1000000000
 LONGEST_TEXT = 60
+MOST_FIGURES = 10
 
 # By its number, as the sign itself does not stand in a text of the program.
 PERCENT_SIGN = 37
@@ -27,6 +28,15 @@ def is_rank(thing):
     return is_whole(thing) and 0 <= thing <= GREATEST_RANK
 
 
+# None for what is no number written so; no number that counts anywhere has more figures.
+def read_number(text):
+    if not 1 <= len(text) <= MOST_FIGURES or not all([is_figure(sign) for sign in text]):
+        return None
+    if text.startswith("0") and text != "0":
+        return None
+    return int(text)
+
+
 def has_length(thing, least, greatest):
     return isinstance(thing, str) and least <= len(thing) <= greatest
 
@@ -36,8 +46,12 @@ def is_letter(sign):
     return "a" <= sign <= "z"
 
 
+def is_figure(sign):
+    return "0" <= sign <= "9"
+
+
 def is_name_sign(sign):
-    return is_letter(sign) or "0" <= sign <= "9" or sign == "."
+    return is_letter(sign) or is_figure(sign) or sign == "."
 
 
 def is_text_sign(sign):

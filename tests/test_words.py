@@ -1,7 +1,7 @@
 import copy
 import unittest
 
-from manyleaf.words import is_name, is_rank, is_text, is_whole, is_word
+from manyleaf.words import is_name, is_rank, is_text, is_whole, is_word, read_number
 
 LETTERS = "abcdefghijklmnopqrstuvwxyz"
 FIGURES = "0123456789"
@@ -155,6 +155,18 @@ class Text(Texts):
     def test_things_of_other_kinds(self):
         for thing in no_texts():
             self.tells(is_text, thing, False)
+
+
+class Number(unittest.TestCase):
+    def test_numbers(self):
+        for number in (0, 1, 9, 10, 100, 10 ** 9, 10 ** 10 - 1):
+            self.assertEqual(read_number(str(number)), number)
+
+    def test_what_is_no_number(self):
+        for text in ("", "00", "01", "-1", "+1", " 1", "1 ", "1\n", "1.0", "1_0", "a", "0x1", "10000000000", "9" * 5000,
+                     "0" * 5000, "\u0661", "\xb2", "\uff11", "\u0967"):
+            with self.subTest(text):
+                self.assertIsNone(read_number(text))
 
 
 class Untouched(unittest.TestCase):

@@ -86,3 +86,7 @@ def kept_rows(allowed, rows):
             sets[key] = sets.get(key, 0) | (choices & allowed)
             plains[key] = plain
     return in_order([(sets[key], plains[key].copied()) for key in sets])
+
+
+def copied_book(book):
+    return gathered(book.panel, book.rows_in(book.panel.allowed()))

@@ -17,6 +17,9 @@ class Plain:
             raise NoPart(name)
         return self.records[name]
 
+    def state_or_none(self, name):
+        return self.records.get(name)
+
     def kind_of(self, name):
         return self.state(name)[0]
 

@@ -38,9 +38,5 @@ class View:
 
 
 def unlike_choices(rows, first, name):
-    state = state_or_none(first, name)
-    return union_of([choices for choices, plain in rows if state_or_none(plain, name) != state])
-
-
-def state_or_none(plain, name):
-    return plain.state(name) if plain.has(name) else None
+    state = first.state_or_none(name)
+    return union_of([choices for choices, plain in rows if plain.state_or_none(name) != state])

@@ -142,7 +142,8 @@ def made_change(rng, plain, names):
     if way == 0:
         plain.drop(name)
     elif way == 1:
-        plain.lay(name, kind, parent, rank, drawn_content(rng, kind))
+        content = with_other_cell(rng, content) if kind == "table" else drawn_content(rng, kind)
+        plain.lay(name, kind, parent, rank, content)
     elif way == 2:
         beneath = plain.beneath(name) + [name]
         free = [holder for holder in holders_of(plain) if holder not in beneath]
@@ -150,6 +151,12 @@ def made_change(rng, plain, names):
     elif not plain.under(name):
         kind = rng.choice(["chapter", "para", "table"])
         plain.lay(name, kind, parent, rank, drawn_content(rng, kind))
+
+
+def with_other_cell(rng, table):
+    rows = [list(row) for row in table]
+    rng.choice(rows)[rng.randrange(len(rows[0]))] = rng.choice(TEXTS)
+    return tuple(tuple(row) for row in rows)
 
 
 def holders_of(plain):

@@ -58,6 +58,9 @@ class PartEdit(Edit):
 
 
 class TextEdit(PartEdit):
+    def __init__(self, part):
+        PartEdit.__init__(self, part)
+
     def need_rest(self, plain, choice):
         if plain.kind_of(self.part) == "table":
             raise WrongKind(self.part, choice)
@@ -69,7 +72,7 @@ class TextEdit(PartEdit):
 
 class Write(TextEdit):
     def __init__(self, part, text):
-        PartEdit.__init__(self, part)
+        TextEdit.__init__(self, part)
         insist(is_text(text))
         self.text = text
 
@@ -85,7 +88,7 @@ class Write(TextEdit):
 
 class Splice(TextEdit):
     def __init__(self, part, at, size, text):
-        PartEdit.__init__(self, part)
+        TextEdit.__init__(self, part)
         insist(is_rank(at) and is_rank(size) and is_text(text))
         self.at = at
         self.size = size
@@ -105,6 +108,9 @@ class Splice(TextEdit):
 
 
 class TableEdit(PartEdit):
+    def __init__(self, part):
+        PartEdit.__init__(self, part)
+
     def need_rest(self, plain, choice):
         if plain.kind_of(self.part) != "table":
             raise WrongKind(self.part, choice)
@@ -116,7 +122,7 @@ class TableEdit(PartEdit):
 
 class Cell(TableEdit):
     def __init__(self, part, row, column, text):
-        PartEdit.__init__(self, part)
+        TableEdit.__init__(self, part)
         insist(is_rank(row) and is_rank(column) and is_text(text))
         self.row = row
         self.column = column
@@ -137,7 +143,7 @@ class Cell(TableEdit):
 
 class AddRow(TableEdit):
     def __init__(self, part, at, cells):
-        PartEdit.__init__(self, part)
+        TableEdit.__init__(self, part)
         insist(is_rank(at) and is_row(cells))
         self.at = at
         self.cells = cells
@@ -157,7 +163,7 @@ class AddRow(TableEdit):
 
 class CutRow(TableEdit):
     def __init__(self, part, at):
-        PartEdit.__init__(self, part)
+        TableEdit.__init__(self, part)
         insist(is_rank(at))
         self.at = at
 

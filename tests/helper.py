@@ -106,6 +106,10 @@ def records_of(plain):
     return {name: plain.state(name) for name in plain.names()}
 
 
+def states_of(book):
+    return {number: records_of(book.plain(number)) for number in members_of(book.panel.allowed())}
+
+
 def plain_of(records):
     plain = Plain()
     for name, record in records.items():

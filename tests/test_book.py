@@ -1,8 +1,8 @@
 import random
 import unittest
 
-from helper import (LANG, SIZE, drawn_book, drawn_panel, drawn_plain, members_of, odd_things, plain_of, records_of, set_of,
-                    small_panels)
+from helper import (LANG, SIZE, drawn_book, drawn_panel, drawn_plain, members_of, odd_things, plain_of, records_of,
+                    set_of, small_panels)
 from manyleaf.book import Book, gathered
 from manyleaf.errors import NoChoice, NoPart
 from manyleaf.panel import Panel

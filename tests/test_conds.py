@@ -40,7 +40,8 @@ class Reading(unittest.TestCase):
         self.assertEqual(read_cond(PANEL, "lang=fr"), 0b11110000)
 
     def test_free_order_boxes_twice_and_overlapping(self):
-        texts = ["lang=de,en", "lang=en,de", "en=lang,big&size=big&lang=fr,de,en", "lang=en|lang=en", "lang=en|lang=en,fr",
+        texts = ["lang=de,en", "lang=en,de", "en=lang,big&size=big&lang=fr,de,en", "lang=en|lang=en",
+                 "lang=en|lang=en,fr",
                  "size=big|lang=en&size=small|size=big", "en=big&lang=fr|size=small|lang=de&en=lang&size=big",
                  "lang=en,fr,de|lang=en", "en=big|en=lang", "size=small,big&en=big,lang"]
         for text in texts:
@@ -78,15 +79,22 @@ class NoCondition(unittest.TestCase):
             self.refused(thing)
 
     def test_each_way_to_be_none(self):
-        for text in ("", " ", "**", "*-", "--", "* ", " *", "-|-", "*|lang=en", "lang=en|*", "-|lang=en", "lang=en|-", "*&lang=en",
-                     "lang=en&*", "lang=*", "lang=-", "lang", "=", "lang=", "=en", "lang==en", "lang=en=fr", "lang=en,", "lang=,en",
-                     "lang=en,,fr", "lang=en|", "|lang=en", "lang=en||lang=fr", "lang=en&", "&lang=en", "lang=en&&size=big",
-                     "lang=en&lang=fr", "lang=en&size=big&lang=en", "lang=en,en", "lang=en,fr,en", "lang=it", "lang=big",
+        for text in ("", " ", "**", "*-", "--", "* ", " *", "-|-", "*|lang=en", "lang=en|*", "-|lang=en", "lang=en|-",
+                     "*&lang=en",
+                     "lang=en&*", "lang=*", "lang=-", "lang", "=", "lang=", "=en", "lang==en", "lang=en=fr",
+                     "lang=en,", "lang=,en",
+                     "lang=en,,fr", "lang=en|", "|lang=en", "lang=en||lang=fr", "lang=en&", "&lang=en",
+                     "lang=en&&size=big",
+                     "lang=en&lang=fr", "lang=en&size=big&lang=en", "lang=en,en", "lang=en,fr,en", "lang=it",
+                     "lang=big",
                      "size=en", "x=en", "Lang=en", "lang=EN", "lang=e", "lan=en", "langs=en", "lang=ens", "lang=lang",
-                     "en=en", "big=en", "lang=en;size=big", "lang=en size=big", "lang:en", "!lang=en", "~lang=en", "(lang=en)",
-                     "lang=en\n", "\nlang=en", "lang=en,\nfr", "lang=en\t", "lang=en\x00", "lang =en", "lang= en", "lang=en ,fr",
+                     "en=en", "big=en", "lang=en;size=big", "lang=en size=big", "lang:en", "!lang=en", "~lang=en",
+                     "(lang=en)",
+                     "lang=en\n", "\nlang=en", "lang=en,\nfr", "lang=en\t", "lang=en\x00", "lang =en", "lang= en",
+                     "lang=en ,fr",
                      "lang=en, fr", "lang=en |lang=fr", "lang=en| lang=fr", "lang=en &size=big", "lang=en& size=big",
-                     "lang=\uff45n", "lang=en/fr", "*lang=en", "lang=en*", "-lang=en", "lang=en-", "|", "&", ",", "||", "\u2217"):
+                     "lang=\uff45n", "lang=en/fr", "*lang=en", "lang=en*", "-lang=en", "lang=en-", "|", "&", ",", "||",
+                     "\u2217"):
             self.refused(text)
 
     def test_one_sign_more_at_each_place(self):
@@ -242,7 +250,8 @@ class Telling(unittest.TestCase):
 
     def test_the_kinds_of_boxes(self):
         boxes = boxes_of(Panel([LANG, SIZE]), 0b000001, 0b111111)
-        self.assertEqual([type(boxes), type(boxes[0]), type(boxes[0][0]), type(boxes[0][0][1])], [list, list, tuple, tuple])
+        self.assertEqual([type(boxes), type(boxes[0]), type(boxes[0][0]), type(boxes[0][0][1])],
+                         [list, list, tuple, tuple])
 
     def test_conditions_by_plain_numbers(self):
         panel = Panel([LANG, SIZE])

@@ -5,8 +5,9 @@ from helper import drawn_book, drawn_panel, drawn_set, drawn_told, members_of, o
 from manyleaf import errors
 from manyleaf.conds import tell_choice, tell_cond
 from manyleaf.desk import Desk
-from manyleaf.errors import (BadCond, BadEdit, BadPage, BadPanel, Doubled, Far, IsLive, LeafError, Lost, NoChoice, NoEdit,
-                             NoEditor, NoHolder, NoPart, NoRow, NotLive, Ring, StandsOn, TooLong, Unlike, WrongKind)
+from manyleaf.errors import (BadCond, BadEdit, BadPage, BadPanel, Doubled, Far, IsLive, LeafError, Lost, NoChoice,
+                             NoEdit, NoEditor, NoHolder, NoPart, NoRow, NotLive, Ring, StandsOn, TooLong, Unlike,
+                             WrongKind)
 from manyleaf.history import History
 from manyleaf.kinds import kind_of_word
 from manyleaf.pages import written
@@ -71,18 +72,23 @@ class PanelRow(Case):
         self.assertEqual(desk.say("lines 1 a para 0 a=y"), "1 - a=y&b=y/1 a=y&b=x/0")
 
     def test_what_is_nothing_told_as_a_switch_or_a_rule(self):
-        for row in ("panel", "panel ", "panel  a=x,y", "panel a=x,y ", "panel a", "panel a=x=y", "panel a=x,y b", "panel a=x,y&b=x,y",
+        for row in ("panel", "panel ", "panel  a=x,y", "panel a=x,y ", "panel a", "panel a=x=y", "panel a=x,y b",
+                    "panel a=x,y&b=x,y",
                     "panel a=x,y !", "panel a=x,y !a", "panel a=x,y !a=x=y", "panel a=x,y !a=x&", "panel a=x,y !&a=x",
-                    "panel a=x,y !a=x&a=y", "panel a=x,y !a=x&b", "panel *", "panel a=x,y -", "panel a=x,y !*", "panel a=x,y !a=x|b=x",
-                    "panel a=x,y !a=x&q=x&q=x"):
+                    "panel a=x,y !a=x&a=y", "panel a=x,y !a=x&b", "panel *", "panel a=x,y -", "panel a=x,y !*",
+                    "panel a=x,y !a=x|b=x",
+                    "panel a=x,y !a=x&q=x&q=x", "panel a=x&y,z", "panel a&b=x,y", "panel &a=x,y", "panel a=x,y&"):
             self.refused(Desk(), row, NoRow)
             self.refused(opened(), row, NoRow)
 
     def test_what_makes_no_panel(self):
-        for row in ("panel a=x", "panel a=", "panel =", "panel =x,y", "panel a=x,x", "panel a=x,y,z,w,v", "panel A=x,y", "panel a=x,Y",
-                    "panel a=x,", "panel !a=x", "panel a=x,y a=x,y", "panel a=x,y !b=x", "panel a=x,y !a=z", "panel a=x,y !a=x,x",
+        for row in ("panel a=x", "panel a=", "panel =", "panel =x,y", "panel a=x,x", "panel a=x,y,z,w,v",
+                    "panel A=x,y", "panel a=x,Y",
+                    "panel a=x,", "panel !a=x", "panel a=x,y a=x,y", "panel a=x,y !b=x", "panel a=x,y !a=z",
+                    "panel a=x,y !a=x,x",
                     "panel a=x,y !a=", "panel a=x,y !=x", "panel a=x,y !!a=x", "panel a=x,y" + " !a=x" * 9,
-                    "panel " + " ".join(word + "=x,y" for word in "abcdef"), "panel " + " ".join(word + "=x,y,z,w" for word in "abcde"),
+                    "panel " + " ".join(word + "=x,y" for word in "abcdef"),
+                    "panel " + " ".join(word + "=x,y,z,w" for word in "abcde"),
                     "panel a=x|y,z", "panel a=x,y\n", "panel a!=x,y", "panel abcdefghi=x,y", "panel a=x,y !a=x\n"):
             self.refused(Desk(), row, BadPanel)
             self.refused(opened(), row, BadPanel)
@@ -109,7 +115,8 @@ class OpenRow(Case):
         self.assertEqual(desk.say("page -"), "")
 
     def test_what_is_no_page(self):
-        for page, line, choice in (("x", 1, None), (" ", 1, None), ("1 a para 0 *", 1, 0), ("1 a para 0 -\n", 2, None), ("\n", 1, None),
+        for page, line, choice in (("x", 1, None), (" ", 1, None), ("1 a para 0 *", 1, 0), ("1 a para 0 -\n", 2, None),
+                                   ("\n", 1, None),
                                    ("1 a para 0 *\n: * x\n1 a para 0 lang=fr", 3, 2)):
             self.refused(opened(), "open " + page, BadPage, line=line, choice=choice)
             self.refused(opened(), "lines " + page, BadPage, line=line, choice=choice)
@@ -149,13 +156,19 @@ class EditRow(Case):
 
     def test_each_deed(self):
         deeds = [
-            ("put n para a 3 some  text ", ("put", "n", "para", "a", 3, "some  text ")), ("put n para - 0 ", ("put", "n", "para", "", 0, "")),
+            ("put n para a 3 some  text ", ("put", "n", "para", "a", 3, "some  text ")),
+            ("put n para - 0 ", ("put", "n", "para", "", 0, "")),
             ("put n table - 0 a|b/\\||c", ("put", "n", "table", "", 0, (("a", "b"), ("|", "c")))),
-            ("put n table - 0 ", ("put", "n", "table", "", 0, (("",),))), ("put n chapter a 1000000000 *", ("put", "n", "chapter", "a", 10 ** 9, "*")),
-            ("write a  new ", ("write", "a", " new ")), ("write a ", ("write", "a", "")), ("splice a 1 0 x y", ("splice", "a", 1, 0, "x y")),
-            ("splice a 0 1 ", ("splice", "a", 0, 1, "")), ("cell t 1 0 ", ("cell", "t", 1, 0, "")), ("cell t 0 1 a|b", ("cell", "t", 0, 1, "a|b")),
-            ("addrow t 0 a\\||b", ("addrow", "t", 0, ("a|", "b"))), ("addrow t 2 |", ("addrow", "t", 2, ("", ""))), ("cutrow t 1", ("cutrow", "t", 1)),
-            ("cut a", ("cut", "a")), ("move t - 3", ("move", "t", "", 3)), ("move t a 3", ("move", "t", "a", 3)), ("wrap a w The title", ("wrap", "a", "w", "The title")),
+            ("put n table - 0 ", ("put", "n", "table", "", 0, (("",),))),
+            ("put n chapter a 1000000000 *", ("put", "n", "chapter", "a", 10 ** 9, "*")),
+            ("write a  new ", ("write", "a", " new ")), ("write a ", ("write", "a", "")),
+            ("splice a 1 0 x y", ("splice", "a", 1, 0, "x y")),
+            ("splice a 0 1 ", ("splice", "a", 0, 1, "")), ("cell t 1 0 ", ("cell", "t", 1, 0, "")),
+            ("cell t 0 1 a|b", ("cell", "t", 0, 1, "a|b")),
+            ("addrow t 0 a\\||b", ("addrow", "t", 0, ("a|", "b"))), ("addrow t 2 |", ("addrow", "t", 2, ("", ""))),
+            ("cutrow t 1", ("cutrow", "t", 1)),
+            ("cut a", ("cut", "a")), ("move t - 3", ("move", "t", "", 3)), ("move t a 3", ("move", "t", "a", 3)),
+            ("wrap a w The title", ("wrap", "a", "w", "The title")),
             ("wrap t w ", ("wrap", "t", "w", "")),
         ]
         for deed, told in deeds:
@@ -171,7 +184,8 @@ class EditRow(Case):
 
     def test_the_answer_is_the_number(self):
         desk = opened()
-        self.assertEqual([desk.say("edit ann * write a x") for _ in range(11)], [str(number) for number in range(1, 12)])
+        self.assertEqual([desk.say("edit ann * write a x") for _ in range(11)],
+                         [str(number) for number in range(1, 12)])
 
     def test_for_everybody_who_sees_the_part_so(self):
         desk = opened("edit ann ~lang=de write a neu")
@@ -205,17 +219,24 @@ class EditRow(Case):
         self.refused(opened(), "edit ann ~* move a q 0", Unlike, part="a", one=0, other=2)
 
     def test_words_too_few_and_too_many(self):
-        for row in ("edit", "edit ann", "edit ann *", "edit ann * ", "edit ann * put", "edit ann * put n para - 0", "edit ann * put n para -",
-                    "edit ann * write", "edit ann * write a", "edit ann * splice a 0 0", "edit ann * cell t 0 0", "edit ann * addrow t 0",
-                    "edit ann * cutrow t", "edit ann * cutrow t 0 ", "edit ann * cutrow t 0 0", "edit ann * cut", "edit ann * cut a b", "edit ann * cut a ",
-                    "edit ann * move t -", "edit ann * move t - 0 0", "edit ann * move t - 0 ", "edit ann * wrap a", "edit ann * wrap a w",
-                    "edit ann  * write a x", "edit  ann * write a x", "edit ann *  write a x", "edit ann * Write a x", "edit ann * text a x",
-                    "edit ann * cuts a", "edit ann * cut\na", "edit - * cut a", "edit Ann * cut a", "edit  * cut a", "edit ann * -"):
+        for row in ("edit", "edit ann", "edit ann *", "edit ann * ", "edit ann * put", "edit ann * put n para - 0",
+                    "edit ann * put n para -",
+                    "edit ann * write", "edit ann * write a", "edit ann * splice a 0 0", "edit ann * cell t 0 0",
+                    "edit ann * addrow t 0",
+                    "edit ann * cutrow t", "edit ann * cutrow t 0 ", "edit ann * cutrow t 0 0", "edit ann * cut",
+                    "edit ann * cut a b", "edit ann * cut a ",
+                    "edit ann * move t -", "edit ann * move t - 0 0", "edit ann * move t - 0 ", "edit ann * wrap a",
+                    "edit ann * wrap a w",
+                    "edit ann  * write a x", "edit  ann * write a x", "edit ann *  write a x", "edit ann * Write a x",
+                    "edit ann * text a x",
+                    "edit ann * cuts a", "edit ann * cut\na", "edit - * cut a", "edit Ann * cut a", "edit  * cut a",
+                    "edit ann * -"):
             self.refused(opened(), row, NoRow)
 
     def test_words_that_are_no_numbers(self):
         for number in ("", "x", "-1", "01", "00", "+1", "1.0", "10000000000", "9" * 100, "\u0661", "0\n", "1_0"):
-            for deed in ("put n para - {} x", "splice a {} 0 x", "splice a 0 {} x", "cell t {} 0 x", "cell t 0 {} x", "addrow t {} a|b",
+            for deed in ("put n para - {} x", "splice a {} 0 x", "splice a 0 {} x", "cell t {} 0 x", "cell t 0 {} x",
+                         "addrow t {} a|b",
                          "cutrow t {}", "move t - {}"):
                 self.refused(opened(), "edit ann * " + deed.replace("{}", number), NoRow)
                 self.refused(opened(), "edit ann nonsense " + deed.replace("{}", number), NoRow)
@@ -227,11 +248,16 @@ class EditRow(Case):
             self.refused(opened(), f"edit ann {cond} cut a", BadCond)
 
     def test_what_makes_no_edit(self):
-        for deed in ("put N para - 0 x", "put n Para - 0 x", "put n  - 0 x", "put n para  0 x", "put n para A 0 x", "put n para - 9999999999 x", "put n para - 1000000001 x",
-                     "put n para - 0 " + "x" * 61, "put n para - 0 a\nb", "put n para - 0 100%", "put n table - 0 a|b/c", "put n table - 0 \\", "put n nokind - 0 \\",
-                     "put  para - 0 x", "write - x", "write  x", "write A x", "write a %", "write a " + "x" * 61, "write a x\ny", "splice - 0 0 x", "splice a 9999999999 0 x",
-                     "splice a 0 0 \n", "cell - 0 0 x", "cell t 0 0 %", "addrow t 0 a/b", "addrow t 0 \\", "addrow t 0 1|2|3|4|5|6|7", "addrow t 0 %", "addrow - 0 a", "cutrow - 0",
-                     "cutrow t 1000000001", "cut -", "cut ", "cut A", "cut a\n", "move - - 0", "move t  0", "move  - 0", "move t T 0", "move t -- 0", "wrap a - x", "wrap a W x",
+        for deed in ("put N para - 0 x", "put n Para - 0 x", "put n  - 0 x", "put n para  0 x", "put n para A 0 x",
+                     "put n para - 9999999999 x", "put n para - 1000000001 x",
+                     "put n para - 0 " + "x" * 61, "put n para - 0 a\nb", "put n para - 0 100%",
+                     "put n table - 0 a|b/c", "put n table - 0 \\", "put n nokind - 0 \\",
+                     "put  para - 0 x", "write - x", "write  x", "write A x", "write a %", "write a " + "x" * 61,
+                     "write a x\ny", "splice - 0 0 x", "splice a 9999999999 0 x",
+                     "splice a 0 0 \n", "cell - 0 0 x", "cell t 0 0 %", "addrow t 0 a/b", "addrow t 0 \\",
+                     "addrow t 0 1|2|3|4|5|6|7", "addrow t 0 %", "addrow - 0 a", "cutrow - 0",
+                     "cutrow t 1000000001", "cut -", "cut ", "cut A", "cut a\n", "move - - 0", "move t  0",
+                     "move  - 0", "move t T 0", "move t -- 0", "wrap a - x", "wrap a W x",
                      "wrap - w x", "wrap a w %", "wrap  w x", "wrap a  x"):
             self.refused(opened(), "edit ann * " + deed, BadEdit)
 
@@ -327,9 +353,11 @@ class TellingRows(Case):
     def test_view(self):
         desk = opened("edit ann * cut t")
         self.assertEqual(desk.say("view - lang=en"), "\n".join([
-            "1 a chapter 1 *", ": * One", "2 p para 0 *", ": size=big  big ", ": size=small ", "2 t table 5 *", ": * x|y/\\|\\\\|\\/"]))
+            "1 a chapter 1 *", ": * One", "2 p para 0 *", ": size=big  big ", ": size=small ", "2 t table 5 *",
+            ": * x|y/\\|\\\\|\\/"]))
         self.assertEqual(desk.say("view ann lang=en&size=big|lang=fr"), "\n".join([
-            "1 a chapter 1 *", ": lang=en One", ": lang=fr Un", "2 p para 0 lang=en", ": *  big ", "1 z para 1000000000 lang=fr", ": * last"]))
+            "1 a chapter 1 *", ": lang=en One", ": lang=fr Un", "2 p para 0 lang=en", ": *  big ",
+            "1 z para 1000000000 lang=fr", ": * last"]))
         self.assertEqual(desk_with(PANEL).say("view - *"), "")
 
     def test_view_refusals(self):
@@ -348,11 +376,13 @@ class TellingRows(Case):
         self.assertEqual(desk.say("read - lang=en&size=big"),
                          "1 a chapter 1 One\n2 p para 0  big \n2 t table 5 x|y/\\|\\\\|\\/")
         self.assertEqual(desk.say("read ann size=small&lang=en"), "1 a chapter 1 One\n2 p para 0 ")
-        self.assertEqual(desk.say("read ann lang=fr&size=big|size=big&lang=fr"), "1 a chapter 1 Un\n1 z para 1000000000 last")
+        self.assertEqual(desk.say("read ann lang=fr&size=big|size=big&lang=fr"),
+                         "1 a chapter 1 Un\n1 z para 1000000000 last")
         self.assertEqual(desk_with(PANEL).say("read - lang=en&size=big"), "")
 
     def test_read_refusals(self):
-        for cond in ("*", "-", "lang=en", "lang=en&size=big,small", "lang=de&size=small", "lang=en&size=big|lang=fr&size=big"):
+        for cond in ("*", "-", "lang=en", "lang=en&size=big,small", "lang=de&size=small",
+                     "lang=en&size=big|lang=fr&size=big"):
             self.refused(opened(), "read - " + cond, NoChoice)
             self.refused(opened(), "read bob " + cond, NoEditor, editor="bob")
         self.refused(opened(), "read bob lang", BadCond)
@@ -364,7 +394,8 @@ class TellingRows(Case):
     def test_books(self):
         desk = opened("edit ann * cut p", "edit ann * cut z")
         self.assertEqual(desk.say("books -"), "\n".join([
-            "lang=en&size=big lang=en&size=big", "lang=en&size=small lang=en&size=small", "lang=fr&size=big lang=fr", "lang=de&size=big lang=de"]))
+            "lang=en&size=big lang=en&size=big", "lang=en&size=small lang=en&size=small", "lang=fr&size=big lang=fr",
+            "lang=de&size=big lang=de"]))
         self.assertEqual(desk.say("books ann"), "lang=en&size=big lang=en\nlang=fr&size=big lang=fr,de")
         self.refused(desk, "books bob", NoEditor, editor="bob")
         for row in ("books", "books ", "books - -", "books ann "):
@@ -375,7 +406,9 @@ class TellingRows(Case):
         self.assertEqual(desk.say("lines "), "")
         self.assertEqual(desk.say("lines " + PAGE), "\n".join([
             "1 lang=en&size=big", "4 lang=en&size=big", "7 lang=en&size=big", "9 lang=fr&size=big"]))
-        self.assertEqual(desk.say("lines 1 a chapter 0 lang=de&size=small\n2 b para 0 *\n2 c para 0 lang=en\n1 d para 0 size=small\n: *  x "),
+        page = "\n".join(["1 a chapter 0 lang=de&size=small", "2 b para 0 *", "2 c para 0 lang=en",
+                          "1 d para 0 size=small", ": *  x "])
+        self.assertEqual(desk.say("lines " + page),
                          "1 - lang=de&size=small/0\n2 - lang=de&size=small/0\n3 -\n4 lang=en&size=small")
         self.assertEqual(desk.say("page -"), PAGE)
 
@@ -387,11 +420,13 @@ class NoRows(Case):
             self.refused(Desk(), thing, NoRow)
 
     def test_first_words_that_are_none(self):
-        for row in ("", " ", "Page -", "pages -", "page-", " page -", "\npage -", "quit", "help", "page\n-", "-", "put a", "cut a", "panels a=x,y"):
+        for row in ("", " ", "Page -", "pages -", "page-", " page -", "\npage -", "quit", "help", "page\n-", "-",
+                    "put a", "cut a", "panels a=x,y"):
             self.refused(opened(), row, NoRow)
 
     def test_every_row_but_panel_where_there_is_no_panel(self):
-        for row in ("open " + PAGE, "open ", "open x", "editor ann", "edit ann * cut a", "edit ann x cut A", "undo ann 1", "redo ann 1", "live ann", "send ann", "page -",
+        for row in ("open " + PAGE, "open ", "open x", "editor ann", "edit ann * cut a", "edit ann x cut A",
+                    "undo ann 1", "redo ann 1", "live ann", "send ann", "page -",
                     "view - *", "view - x", "read - *", "books -", "lines ", "lines x"):
             desk = Desk()
             with self.assertRaises(NoRow):
@@ -433,7 +468,8 @@ class Drawn(unittest.TestCase):
             panel = drawn_panel(rng, most=10)
             desk = Desk()
             words = [word + "=" + ",".join(settings) for word, settings in panel.switches()]
-            words += ["!" + "&".join(word + "=" + ",".join(told) for word, told in rule.items()) for rule in panel.rules()]
+            words += ["!" + "&".join(word + "=" + ",".join(told) for word,
+                                     told in rule.items()) for rule in panel.rules()]
             desk.say("panel " + " ".join(words))
             self.assertEqual(desk.panel.rules(), panel.rules())
             book = drawn_book(rng, panel)
@@ -455,7 +491,7 @@ class Drawn(unittest.TestCase):
                 self.assertEqual(desk.say("page ann"), written(history.book_now()))
             for number in members_of(panel.allowed()):
                 lines = history.book_now().plain(number).lines()
-                shown = [" ".join([str(thing) for thing in line[:4]] + [kind_of_word(line[2]).shown(line[4])]) for line in lines]
+                shown = ["{} {} {} {} ".format(*line[:4]) + kind_of_word(line[2]).shown(line[4]) for line in lines]
                 self.assertEqual(desk.say("read ann " + tell_choice(panel, number)), "\n".join(shown))
         self.assertGreater(done, 50)
 

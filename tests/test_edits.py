@@ -43,7 +43,8 @@ class Making(unittest.TestCase):
         self.assertIsNone(Cut("a").made())
 
     def test_the_arguments_bear_their_names(self):
-        self.assertEqual(Put(name="a", kind="para", parent="", rank=1, content="c").told(), ("put", "a", "para", "", 1, "c"))
+        self.assertEqual(Put(name="a", kind="para", parent="", rank=1, content="c").told(),
+                         ("put", "a", "para", "", 1, "c"))
         self.assertEqual(Splice(part="a", at=1, size=2, text="t").told(), ("splice", "a", 1, 2, "t"))
         self.assertEqual(Cell(part="a", row=1, column=2, text="t").told(), ("cell", "a", 1, 2, "t"))
         self.assertEqual(AddRow(part="a", at=1, cells=("x",)).told(), ("addrow", "a", 1, ("x",)))
@@ -66,7 +67,8 @@ BAD = {
 FITTING = {"name": ("en", "0", "1"), "parent": ("en", "0", "1", ""), "rank": (), "text": ("", " ", "0", "1", "en", "*"),
            "cells": (("en",),)}
 FORMS = {
-    "put": ["name", None, "parent", "rank", None], "write": ["name", "text"], "splice": ["name", "rank", "rank", "text"],
+    "put": ["name", None, "parent", "rank", None], "write": ["name", "text"],
+    "splice": ["name", "rank", "rank", "text"],
     "cell": ["name", "rank", "rank", "text"], "addrow": ["name", "rank", "cells"], "cutrow": ["name", "rank"],
     "cut": ["name"], "move": ["name", "parent", "rank"], "wrap": ["name", "name", "text"],
 }
@@ -113,7 +115,8 @@ class Refused(unittest.TestCase):
         for content in [table, "x" * 61, "%", ["a"]] + [thing for thing in odd_things() if not isinstance(thing, str)]:
             self.refused(("put", "a", "para", "", 0, content))
             self.refused(("put", "a", "chapter", "", 0, content))
-        for content in ["", "a", (), ((),), [["a"]], (["a"],), (("a",), ("a", "b")), (("a",),) * 7, (("a",) * 7,)] + odd_things():
+        for content in ["", "a", (), ((),), [["a"]], (["a"],), (("a",), ("a", "b")), (("a",),) * 7,
+                        (("a",) * 7,)] + odd_things():
             self.refused(("put", "a", "table", "", 0, content))
 
     def test_what_is_no_tuple(self):
@@ -163,7 +166,8 @@ REFUSALS = [
     (("put", "new", "chapter", "t", 0, ""), NoHolder, "t"),
     (("write", "t", ""), WrongKind, "t"), (("splice", "t", 0, 0, ""), WrongKind, "t"),
     (("splice", "t", 99, 99, "x" * 60), WrongKind, "t"),
-    (("splice", "p", 9, 1, ""), Far, "p"), (("splice", "p", 10, 0, ""), Far, "p"), (("splice", "p", 0, 10, ""), Far, "p"),
+    (("splice", "p", 9, 1, ""), Far, "p"), (("splice", "p", 10, 0, ""), Far, "p"),
+    (("splice", "p", 0, 10, ""), Far, "p"),
     (("splice", "full", 61, 0, "x"), Far, "full"), (("splice", "full", 0, 61, "x" * 60), Far, "full"),
     (("splice", "full", 0, 0, "x"), TooLong, "full"), (("splice", "full", 60, 0, "x"), TooLong, "full"),
     (("splice", "full", 3, 1, "xx"), TooLong, "full"), (("splice", "p", 0, 0, "x" * 52), TooLong, "p"),
@@ -177,7 +181,8 @@ REFUSALS = [
     (("cutrow", "t", 2), Far, "t"), (("cutrow", "one", 0), Far, "one"), (("cutrow", "one", 1), Far, "one"),
     (("move", "a", "q", 0), Lost, "q"), (("move", "p", "q", 0), Lost, "q"), (("move", "a", "a", 0), Ring, "a"),
     (("move", "a", "b", 0), Ring, "a"), (("move", "a", "p", 0), Ring, "a"), (("move", "p", "p", 0), Ring, "p"),
-    (("move", "b", "p", 0), Ring, "b"), (("move", "b", "t", 0), NoHolder, "t"), (("move", "full", "p", 0), NoHolder, "p"),
+    (("move", "b", "p", 0), Ring, "b"), (("move", "b", "t", 0), NoHolder, "t"),
+    (("move", "full", "p", 0), NoHolder, "p"),
     (("wrap", "a", "a", ""), Doubled, "a"), (("wrap", "a", "p", ""), Doubled, "p"),
 ]
 
@@ -243,8 +248,10 @@ class Done(unittest.TestCase):
         self.just(("write", "p", ""), {"p": ("para", "b", 1, "")})
 
     def test_splice(self):
-        for at, size, text, came in ((0, 0, "", "some text"), (0, 4, "", " text"), (4, 1, "-", "some-text"), (9, 0, "!", "some text!"),
-                                     (0, 9, "x" * 60, "x" * 60), (0, 0, "x" * 51, "x" * 51 + "some text"), (8, 1, "", "some tex")):
+        for at, size, text, came in ((0, 0, "", "some text"), (0, 4, "", " text"), (4, 1, "-", "some-text"),
+                                     (9, 0, "!", "some text!"),
+                                     (0, 9, "x" * 60, "x" * 60), (0, 0, "x" * 51, "x" * 51 + "some text"),
+                                     (8, 1, "", "some tex")):
             self.just(("splice", "p", at, size, text), {"p": ("para", "b", 1, came)})
         self.just(("splice", "full", 60, 0, ""), {"full": ("para", "", 9, "x" * 60)})
         self.just(("splice", "full", 0, 1, "y"), {"full": ("para", "", 9, "y" + "x" * 59)})
@@ -277,7 +284,8 @@ class Done(unittest.TestCase):
 
     def test_wrap(self):
         self.just(("wrap", "b", "w", "Title"), {"w": ("chapter", "a", 2, "Title"), "b": ("chapter", "w", 0, "Two")})
-        self.just(("wrap", "t", "w", ""), {"w": ("chapter", "a", 1, ""), "t": ("table", "w", 0, (("1", "2"), ("3", "4")))})
+        self.just(("wrap", "t", "w", ""),
+                  {"w": ("chapter", "a", 1, ""), "t": ("table", "w", 0, (("1", "2"), ("3", "4")))})
         self.just(("wrap", "full", "w", ""), {"w": ("chapter", "", 9, ""), "full": ("para", "w", 0, "x" * 60)})
 
     def test_an_edit_may_be_done_in_many_books(self):

@@ -1,8 +1,8 @@
 import random
 import unittest
 
-from helper import (LANG, SIZE, about_of, drawn_book, drawn_panel, drawn_set, drawn_told, members_of, odd_things, plain_of,
-                    reckoned, records_of, set_of)
+from helper import (LANG, SIZE, about_of, drawn_book, drawn_panel, drawn_set, drawn_told, members_of, odd_things,
+                    plain_of, reckoned, set_of, states_of)
 from manyleaf.book import Book, gathered
 from manyleaf.edits import Cut, Move, Put, Wrap, Write
 from manyleaf.errors import Doubled, EditError, IsLive, LeafError, NoEdit, NoPart, NotLive, StandsOn
@@ -20,10 +20,6 @@ def sample():
         (0b000011, plain_of({"a": ("chapter", "", 1, "A"), "p": ("para", "a", 0, "x")})),
         (0b011100, plain_of({"a": ("chapter", "", 1, "B")})),
     ])
-
-
-def states_of(book):
-    return {number: records_of(book.plain(number)) for number in members_of(book.panel.allowed())}
 
 
 def everything(history, many):

@@ -47,10 +47,13 @@ class States(Case):
         self.state(None, ("para", "", 0, "x"), ("para", "", 0, "y"), ("para", "", 0, "x"), ["both"])
         self.state(None, ("para", "", 2, "x"), ("para", "", 10, "a"), ("para", "", 2, "x"), ["both"])
         self.state(None, ("para", "", 5, "x"), ("chapter", "", 9, "y"), ("chapter", "", 9, "y"), ["both"])
-        self.state(None, ("table", "", 0, (("b",),)), ("table", "", 0, (("a", "b"),)), ("table", "", 0, (("a", "b"),)), ["both"])
-        # As the kind shows it: the cell with a bar is shown with a backstroke ahead, which is a lesser sign than the bar.
-        self.state(None, ("table", "", 0, (("|",),)), ("table", "", 0, (("", ""),)), ("table", "", 0, (("|",),)), ["both"])
-        self.state(None, ("table", "", 0, (("a", "z"),)), ("table", "", 0, (("a!",),)), ("table", "", 0, (("a!",),)), ["both"])
+        self.state(None, ("table", "", 0, (("b",),)), ("table", "", 0, (("a", "b"),)), ("table", "", 0, (("a", "b"),)),
+                   ["both"])
+        # As the kind shows it: a bar in a cell is shown with a backstroke ahead, which is a lesser sign than the bar.
+        self.state(None, ("table", "", 0, (("|",),)), ("table", "", 0, (("", ""),)), ("table", "", 0, (("|",),)),
+                   ["both"])
+        self.state(None, ("table", "", 0, (("a", "z"),)), ("table", "", 0, (("a!",),)), ("table", "", 0, (("a!",),)),
+                   ["both"])
 
     def test_both_by_the_parent(self):
         elder = {"b": CHAPTER, "c": CHAPTER}
@@ -75,7 +78,8 @@ class States(Case):
                 (("", 1), ("", 1), ("", 1), []), (("b", 0), ("", 0), ("b", 0), []), (("", 0), ("", 7), ("", 7), []),
                 (("b", 0), ("", 1), ("", 0), [("a", "place")]), (("b", 1), ("b", 2), ("", 0), [("a", "place")]),
                 (("b", 5), ("b", 5), ("b", 5), [])):
-            books = [{"b": CHAPTER, "a": ("para",) + way + (text,)} for way, text in ((one, "y"), (other, "y"), (place, "y"))]
+            books = [{"b": CHAPTER, "a": ("para",) + way + (text,)} for way,
+                     text in ((one, "y"), (other, "y"), (place, "y"))]
             self.gives(elder, books[0], books[1], books[2], clashes)
 
     def test_place_and_content_by_themselves(self):
@@ -105,7 +109,8 @@ class Loose(Case):
     def test_what_stands_beneath_stays_there(self):
         elder = {"c": CHAPTER}
         other = {"c": CHAPTER, "d": ("chapter", "c", 1, "D"), "e": ("chapter", "d", 0, ""), "p": ("para", "e", 2, "x")}
-        self.gives(elder, {}, other, {"d": ("chapter", "", 1, "D"), "e": ("chapter", "d", 0, ""), "p": ("para", "e", 2, "x")},
+        self.gives(elder, {}, other,
+                   {"d": ("chapter", "", 1, "D"), "e": ("chapter", "d", 0, ""), "p": ("para", "e", 2, "x")},
                    [("d", "loose")])
 
     def test_a_parent_that_holds_nothing(self):

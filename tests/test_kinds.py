@@ -84,8 +84,10 @@ class Showing(unittest.TestCase):
             self.assertEqual(Table().read_shown(text), table)
 
     def test_texts_that_show_no_table(self):
-        for text in ("\\", "a\\", "\\a", "\\ ", "a|\\", "\\\\\\", "a|b/c", "a/b|c", "|/", "/|", "||||||", "//////", "100%",
-                     "a\nb", "x" * 61, "a|" + "x" * 61, "\\\n", "\\n", "a\\b|c", "\u2028", "\\|\\", "a/b/c|d", "x" * 10 ** 5):
+        for text in ("\\", "a\\", "\\a", "\\ ", "a|\\", "\\\\\\", "a|b/c", "a/b|c", "|/", "/|", "||||||", "//////",
+                     "100%",
+                     "a\nb", "x" * 61, "a|" + "x" * 61, "\\\n", "\\n", "a\\b|c", "\u2028", "\\|\\", "a/b/c|d",
+                     "x" * 10 ** 5):
             with self.subTest(text):
                 self.assertIsNone(Table().read_shown(text))
 
@@ -162,7 +164,8 @@ class Joining(unittest.TestCase):
     def test_tables_cell_by_cell(self):
         base = (("a", "b"), ("c", "d"))
         self.joined(Table(), base, (("x", "b"), ("c", "d")), (("a", "b"), ("c", "y")), (("x", "b"), ("c", "y")), [])
-        self.joined(Table(), base, (("x", "b"), ("c", "d")), (("y", "b"), ("c", "z")), (("a", "b"), ("c", "z")), ["cell 0 0"])
+        self.joined(Table(), base, (("x", "b"), ("c", "d")), (("y", "b"), ("c", "z")), (("a", "b"), ("c", "z")),
+                    ["cell 0 0"])
         self.joined(Table(), base, (("x", "q"), ("c", "1")), (("y", "q"), ("w", "2")), (("a", "q"), ("w", "d")),
                     ["cell 0 0", "cell 1 1"])
         self.joined(Table(), base, (("1", "2"), ("3", "4")), (("5", "6"), ("7", "8")), base,

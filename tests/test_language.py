@@ -148,7 +148,8 @@ class Checker:
         self.fault("L6", node.lineno, isinstance(node, (ast.For, ast.While)) and node.orelse)
         self.fault("L6", node.lineno, isinstance(node, ast.Try) and node.finalbody)
         self.fault("L6", node.lineno, isinstance(node, ast.Assign) and len(node.targets) != 1)
-        self.fault("L6", node.lineno, isinstance(node, ast.Assign) and isinstance(node.targets[0], (ast.Tuple, ast.List)))
+        self.fault("L6", node.lineno,
+                   isinstance(node, ast.Assign) and isinstance(node.targets[0], (ast.Tuple, ast.List)))
         self.fault("L15", node.lineno, isinstance(node, ast.ClassDef) and node not in top)
         self.fault("L2", node.lineno, isinstance(node, ast.ImportFrom) and node not in top)
         if isinstance(node, ast.Expr):
@@ -336,7 +337,8 @@ class TheChecker(unittest.TestCase):
             "x = len('a')\n": "L3", "print(1)\n": "L3", "x = 1\nx = 2\n": "L15",
             "def f(*a):\n    return a\n": "L4", "def f(a=len('')):\n    return a\n": "L4",
             "class A:\n    x = 1\n": "L5", "class A(ValueError, KeyError):\n    pass\n": "L5",
-            "def f():\n    'told'\n": "L6", "def f(a):\n    x = y = a\n": "L6", "def f(a):\n    x, y = a\n": "L6", "def f(a):\n    assert a\n": "L6",
+            "def f():\n    'told'\n": "L6", "def f(a):\n    x = y = a\n": "L6", "def f(a):\n    x, y = a\n": "L6",
+            "def f(a):\n    assert a\n": "L6",
             "def f(a):\n    for x in a:\n        pass\n    else:\n        return 1\n": "L6",
             "def f(a):\n    try:\n        g()\n    except Exception:\n        pass\n": "L19",
             "def f(a):\n    return all(x for x in a)\n": "L7", "x = 1.5\n": "L7", "def f(a):\n    return a / 2\n": "L7",
@@ -355,7 +357,8 @@ class TheChecker(unittest.TestCase):
             "from manyleaf.b import x\n\n\ndef f():\n    x = 2\n    return x\n": "L15",
             "def f(a):\n    return vars(a)\n": "L17",
             "class A:\n    pass\n\n\ndef f():\n    return [A]\n": "L18",
-            "def f(a):\n    raise a\n": "L19", "def f():\n    try:\n        g()\n    except ValueError:\n        pass\n": "L19",
+            "def f(a):\n    raise a\n": "L19",
+            "def f():\n    try:\n        g()\n    except ValueError:\n        pass\n": "L19",
             "def f(a: int):\n    return a\n": "L21", "def f(a):\n    return g(len, a)\n": "L22",
             "def f(a):\n    return a.split(sep=' ')\n": "L22", "def f(a):\n    x = zip(a, a)\n    return x\n": "L23",
             "def f(a):\n    return g(range(3))\n": "L23", "def f(a):\n    x = set(a)\n    return x\n": "L24",

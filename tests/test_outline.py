@@ -1,7 +1,7 @@
 import random
 import unittest
 
-from helper import (LANG, SIZE, drawn_book, drawn_panel, drawn_set, members_of, plain_of, records_of, set_of)
+from helper import LANG, SIZE, drawn_book, drawn_panel, drawn_set, members_of, plain_of, set_of, states_of
 from manyleaf.book import Book, gathered
 from manyleaf.outline import outline
 from manyleaf.panel import Panel
@@ -12,7 +12,8 @@ PANEL = Panel([LANG, SIZE], [{"lang": ["de"], "size": ["small"]}])
 def outline_by_words(states, choices, parent="", depth=1):
     """Point 50 by its words, states being the records of each choice."""
     entries = []
-    keys = {(record[2], name, record[0]) for number in choices for name, record in states[number].items() if record[1] == parent}
+    keys = {(record[2], name, record[0]) for number in choices for name,
+            record in states[number].items() if record[1] == parent}
     for rank, name, kind in sorted(keys):
         having = [number for number in choices if states[number].get(name, ())[:3] == (kind, parent, rank)]
         contents = []
@@ -23,10 +24,6 @@ def outline_by_words(states, choices, parent="", depth=1):
         entries.append((depth, name, kind, rank, set_of(having), contents))
         entries += outline_by_words(states, having, name, depth + 1)
     return entries
-
-
-def states_of(book):
-    return {number: records_of(book.plain(number)) for number in members_of(book.panel.allowed())}
 
 
 def sample():

@@ -1,7 +1,7 @@
 import random
 import unittest
 
-from helper import (LANG, SIZE, drawn_book, drawn_panel, members_of, plain_of, records_of, set_of, small_panels)
+from helper import LANG, SIZE, drawn_book, drawn_panel, members_of, plain_of, set_of, small_panels, states_of
 from manyleaf.book import Book, gathered
 from manyleaf.conds import read_cond, tell_cond
 from manyleaf.errors import BadCond, BadPage
@@ -73,10 +73,6 @@ class Written(unittest.TestCase):
             book = drawn_book(rng, PANEL, most=3)
             known = pages.setdefault(written(book), book)
             self.assertTrue(known.same(book))
-
-
-def states_of(book):
-    return {number: records_of(book.plain(number)) for number in members_of(book.panel.allowed())}
 
 
 def written_by_words(book):
@@ -200,7 +196,8 @@ class Read(unittest.TestCase):
         self.assertEqual(book.places("a"), [(0b000011, ("para", "", 0)), (0b011100, ("table", "b", 0))])
 
     def test_lines_beneath_the_last_one_of_one_depth_less(self):
-        page = "1 a chapter 0 *\n: * A\n2 b chapter 0 *\n: * B\n3 c para 0 *\n: * C\n2 d para 0 *\n: * D\n1 e para 0 *\n: * E"
+        lines = ["1 a chapter 0 *", "2 b chapter 0 *", "3 c para 0 *", "2 d para 0 *", "1 e para 0 *"]
+        page = "\n".join([line + "\n: * x" for line in lines])
         plain = read_page(PANEL, page).plain(0)
         self.assertEqual([plain.parent_of(name) for name in "abcde"], ["", "a", "b", "a", ""])
 
@@ -233,8 +230,10 @@ class Faults(unittest.TestCase):
                 self.assertEqual((caught.exception.line, caught.exception.choice), (line, choice))
 
     def test_part_lines_that_are_not_five_words(self):
-        for line in ("", " ", "1", "1 a para 0", "1 a para 0 * ", " 1 a para 0 *", "1  a para 0 *", "1 a para 0  *", "1 a para 0 * x",
-                     "1\ta para 0 *", "a", "    ", "1 a para 0 * :", "\r", "1 a para 0 *\r", "1 a para 0\x0b*", "1 a para\u2028 0 *"):
+        for line in ("", " ", "1", "1 a para 0", "1 a para 0 * ", " 1 a para 0 *", "1  a para 0 *", "1 a para 0  *",
+                     "1 a para 0 * x",
+                     "1\ta para 0 *", "a", "    ", "1 a para 0 * :", "\r", "1 a para 0 *\r", "1 a para 0\x0b*",
+                     "1 a para\u2028 0 *"):
             self.refused(line if line else "\n", 1, None)
             self.refused("1 z para 0 -\n" + line, 2, None)
 
@@ -246,7 +245,8 @@ class Faults(unittest.TestCase):
         self.refused("1 a para 0 -\n", 2, None)
 
     def test_depths(self):
-        for depth in ("0", "2", "3", "01", "1.", "+1", "-1", "", "one", "1_0", "\u0661", "\uff11", "\xb9", "1" * 5000, "0" * 5000 + "1",
+        for depth in ("0", "2", "3", "01", "1.", "+1", "-1", "", "one", "1_0", "\u0661", "\uff11", "\xb9", "1" * 5000,
+                      "0" * 5000 + "1",
                       "1e0", "00", "1\n", "9" * 20, "0x1", "1,"):
             if "\n" not in depth:
                 self.refused(f"{depth} a para 0 *", 1, None)
@@ -264,10 +264,12 @@ class Faults(unittest.TestCase):
             self.refused(f"1 {name} para 0 *", 1, None)
         for kind in ("Para", "paras", "par", "chapters", "text", "0", "*", "\u0440ara"):
             self.refused(f"1 a {kind} 0 *", 1, None)
-        for rank in ("-1", "00", "01", "+1", "1000000001", "9999999999", "10000000000", "1" * 5000, "x", "1.0", "\u0660", "\u0967",
+        for rank in ("-1", "00", "01", "+1", "1000000001", "9999999999", "10000000000", "1" * 5000, "x", "1.0",
+                     "\u0660", "\u0967",
                      "\xb2", "1_0", "0" * 5000, "0x0"):
             self.refused(f"1 a para {rank} *", 1, None)
-        for cond in ("**", "lang", "lang=it", "x=en", "lang=en|", "lang=en,en", "lang=en&lang=fr", "=", "LANG=en", "*|-", "~*", "!lang=en"):
+        for cond in ("**", "lang", "lang=it", "x=en", "lang=en|", "lang=en,en", "lang=en&lang=fr", "=", "LANG=en",
+                     "*|-", "~*", "!lang=en"):
             self.refused(f"1 a para 0 {cond}", 1, None)
             self.refused(f"1 a para 0 *\n: {cond} x", 2, None)
 
@@ -284,7 +286,8 @@ class Faults(unittest.TestCase):
     def test_one_name_twice_at_a_choice(self):
         self.refused("1 a para 0 *\n: * x\n1 a para 1 *", 3, 0)
         self.refused("1 a para 0 lang=fr\n: * x\n1 a para 1 *", 3, 2)
-        self.refused("1 a para 0 lang=en\n: * x\n1 b para 0 *\n: * y\n1 a para 1 lang=fr\n: * z\n1 a table 0 size=small", 7, 1)
+        ahead = "1 a para 0 lang=en\n: * x\n1 b para 0 *\n: * y\n1 a para 1 lang=fr\n: * z\n"
+        self.refused(ahead + "1 a table 0 size=small", 7, 1)
         self.refused("1 a chapter 0 *\n: * x\n2 a chapter 1 lang=fr&size=small|lang=de", 3, 3)
         self.assertEqual(read_page(PANEL, "1 a para 0 lang=en\n: * x\n1 a para 0 lang=fr,de\n: * x").names(), ["a"])
         self.assertEqual(read_page(PANEL, "1 a para 0 lang=de\n: * x\n1 a para 0 lang=de&size=small").names(), ["a"])
@@ -306,7 +309,8 @@ class Faults(unittest.TestCase):
     def test_content_lines(self):
         self.refused(": * x", 1, None)
         self.refused(":", 1, None)
-        for line in (":", ": ", ": *", ":* x", ":*x", "::", ":  * x", ": * x%", ": * " + "x" * 61, ": * \xe9", ": * a\tb", ": *\tx",
+        for line in (":", ": ", ": *", ":* x", ":*x", "::", ":  * x", ": * x%", ": * " + "x" * 61, ": * \xe9",
+                     ": * a\tb", ": *\tx",
                      ":\t* x", ": * x\r", ":: * x", ": ** x", ": lang=en,fr"):
             self.refused("1 a para 0 *\n" + line, 2, None)
             self.refused("1 a para 0 *\n: size=small x\n" + line, 3, None)
@@ -359,7 +363,8 @@ class Drawn(unittest.TestCase):
             lines[place] = line[:at] + line[at + 1:]
         elif way == 5:
             words = lines[place].split(" ")
-            words[rng.randrange(len(words))] = rng.choice(["*", "-", "1", "2", "3", "0", "a", "para", "chapter", "table", ":", ""])
+            words[rng.randrange(len(words))] = rng.choice(["*", "-", "1", "2", "3", "0", "a", "para", "chapter",
+                                                           "table", ":", ""])
             lines[place] = " ".join(words)
         return "\n".join(lines)
 
@@ -398,9 +403,11 @@ class Shown(unittest.TestCase):
 
     def test_dead_lines_with_paper_and_without(self):
         panel = Panel([LANG, SIZE], [{"size": ["small"], "lang": ["de", "fr"]}, {"lang": ["de"]}])
-        page = "1 a chapter 0 lang=de\n2 b para 0 size=small\n2 c para 0 lang=en\n1 d para 0 -\n1 e chapter 0 *\n: * x\n2 f para 0 lang=fr&size=small"
+        page = "\n".join(["1 a chapter 0 lang=de", "2 b para 0 size=small", "2 c para 0 lang=en", "1 d para 0 -",
+                          "1 e chapter 0 *", ": * x", "2 f para 0 lang=fr&size=small"])
         self.assertEqual(shown_lines(panel, page), [
-            (1, None, [(4, 1), (5, 0)]), (2, None, [(5, 0)]), (3, None, []), (4, None, []), (5, 0, []), (7, None, [(3, 0)]),
+            (1, None, [(4, 1), (5, 0)]), (2, None, [(5, 0)]), (3, None, []), (4, None, []), (5, 0, []),
+            (7, None, [(3, 0)]),
         ])
 
     def test_the_least_choice(self):

@@ -122,7 +122,8 @@ class Refused(unittest.TestCase):
 
     def test_rules_that_bar_every_choice(self):
         self.refused([LANG], [{"lang": ["en", "fr", "de"]}], NoChoice)
-        self.refused([LANG, SIZE], [{"lang": ["en"]}, {"size": ["big"], "lang": ["fr", "de"]}, {"size": ["small"]}], NoChoice)
+        self.refused([LANG, SIZE], [{"lang": ["en"]}, {"size": ["big"], "lang": ["fr", "de"]}, {"size": ["small"]}],
+                     NoChoice)
         self.assertEqual(Panel([LANG, SIZE], [{"lang": ["en"]}, {"size": ["big"]}, {"lang": ["fr"]}]).allowed(), 32)
 
     def test_bad_panel_goes_ahead_of_no_choice(self):
@@ -131,10 +132,13 @@ class Refused(unittest.TestCase):
 
 
 def bad_boxes():
-    boxes = [{key: ["en"]} for key in (0, 1, None, True, (), ("lang",), 1.5, "", "Lang", "en", "langs", "lan", "big", b"lang")]
+    boxes = [{key: ["en"]} for key in (0, 1, None, True, (), ("lang",), 1.5, "", "Lang", "en", "langs", "lan", "big",
+                                       b"lang")]
     boxes += [{"lang": thing} for thing in odd_things() if thing not in (["en"],)]
-    boxes += [{"lang": thing} for thing in (("en",), {"en": 1}, [], ["en", "en"], ["big"], ["en", "big"], ["lang"], [""], ["e"],
-                                            ["en", None], [["en"]], [0], ["en", 0], [{}], ["EN"], ["en", "fr", "de", "en"])]
+    boxes += [{"lang": thing} for thing in (("en",), {"en": 1}, [], ["en", "en"], ["big"], ["en", "big"], ["lang"],
+                                            [""], ["e"],
+                                            ["en", None], [["en"]], [0], ["en", 0], [{}], ["EN"],
+                                            ["en", "fr", "de", "en"])]
     boxes += [{"size": ["big"], "lang": ["it"]}, {"lang": ["en"], "size": []}, {"lang": ["en"], "x": ["big"]}]
     return boxes
 
@@ -158,7 +162,8 @@ class Numbering(unittest.TestCase):
 
     def test_settings_that_make_no_choice(self):
         panel = Panel([LANG, SIZE])
-        for told in ([], ["en"], ["en", "big", "big"], ["big", "en"], ["en", "tiny"], ["it", "big"], ["", ""], ["en", ""],
+        for told in ([], ["en"], ["en", "big", "big"], ["big", "en"], ["en", "tiny"], ["it", "big"], ["", ""],
+                     ["en", ""],
                      ["en", None], [0, 0], [None, None], [["en"], "big"], [("en", "big")], ["EN", "big"], ["en", {}],
                      ["en", "big", None], [True, False]):
             for thing in (told, tuple(told)):

@@ -199,7 +199,8 @@ class Copying(unittest.TestCase):
         self.assertIs(backwards.same(sample()), True)
 
     def test_one_thing_in_one_record_makes_books_unlike(self):
-        for record in (("chapter", "a", 1, "deep"), ("para", "b", 1, "deep"), ("para", "a", 2, "deep"), ("para", "a", 1, "Deep")):
+        for record in (("chapter", "a", 1, "deep"), ("para", "b", 1, "deep"), ("para", "a", 2, "deep"),
+                       ("para", "a", 1, "Deep")):
             other = sample()
             other.lay("a.2", *record)
             self.assertIs(sample().same(other), False)

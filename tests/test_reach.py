@@ -1,8 +1,8 @@
 import random
 import unittest
 
-from helper import (LANG, SIZE, about_of, drawn_book, drawn_panel, drawn_set, drawn_told, members_of, plain_of, reckoned,
-                    records_of, set_of)
+from helper import (LANG, SIZE, about_of, drawn_book, drawn_panel, drawn_set, drawn_told, members_of, plain_of,
+                    reckoned, set_of, states_of)
 from manyleaf.book import Book, gathered
 from manyleaf.edits import Cut, Put, Write
 from manyleaf.errors import Doubled, EditError, Lost, NoHolder, NoPart, Unlike, WrongKind
@@ -21,10 +21,6 @@ def sample():
     ])
 
 
-def states_of(book):
-    return {number: records_of(book.plain(number)) for number in members_of(book.panel.allowed())}
-
-
 class SeenAlike(unittest.TestCase):
     def test_by_hand(self):
         self.assertEqual(seen_alike(sample(), "a", 0b000010), 0b011110)
@@ -40,12 +36,14 @@ class SeenAlike(unittest.TestCase):
         self.assertEqual((caught.exception.part, caught.exception.choice), (name, None))
 
     def test_a_part_that_is_not_there(self):
-        for name, within in (("p", 0b000110), ("q", 0b011001), ("z", 0b111111), ("a", 0), ("a", 0b100000), ("", 0b111111)):
+        for name, within in (("p", 0b000110), ("q", 0b011001), ("z", 0b111111), ("a", 0), ("a", 0b100000),
+                             ("", 0b111111)):
             self.no_part(sample(), name, within)
         self.no_part(Book(PANEL), "a", 0b111111)
 
     def test_unlike_records(self):
-        for name, within, one, other in (("a", 0b111111, 0, 1), ("a", 0b011001, 0, 3), ("p", 0b111111, 0, 3), ("p", 0b010111, 0, 4)):
+        for name, within, one, other in (("a", 0b111111, 0, 1), ("a", 0b011001, 0, 3), ("p", 0b111111, 0, 3),
+                                         ("p", 0b010111, 0, 4)):
             with self.assertRaises(Unlike) as caught:
                 seen_alike(sample(), name, within)
             refusal = caught.exception
@@ -129,10 +127,12 @@ class Edited(unittest.TestCase):
         self.refused(sample(), ("write", "q", "x"), 0b111100, WrongKind, "q", 2)
 
     def test_the_least_choice_is_not_that_of_the_first_class(self):
-        one, other = plain_of({"a": ("para", "", 0, "")}), plain_of({"a": ("table", "", 0, (("",),)), "b": ("para", "", 0, "")})
+        one, other = plain_of({"a": ("para", "", 0, "")}), plain_of({"a": ("table", "", 0, (("",),)),
+                                                                     "b": ("para", "", 0, "")})
         book = gathered(PANEL, [(0b010001, other), (0b001110, one)])
         self.refused(book, ("cell", "a", 0, 0, "x"), 0b011110, WrongKind, "a", 1)
-        third = gathered(PANEL, [(0b010001, one), (0b000010, other), (0b001100, plain_of({"a": ("chapter", "", 0, "")}))])
+        third = gathered(PANEL,
+                         [(0b010001, one), (0b000010, other), (0b001100, plain_of({"a": ("chapter", "", 0, "")}))])
         self.refused(third, ("cell", "a", 0, 0, "x"), 0b011110, WrongKind, "a", 2)
 
     def test_drawn_edits_choice_by_choice(self):
@@ -145,7 +145,8 @@ class Edited(unittest.TestCase):
                 told, reach = drawn_told(rng), drawn_set(rng, panel)
                 before = states_of(book)
                 about = about_of(told)
-                deed = [number for number in members_of(reach) if number in before and (about == "" or about in before[number])]
+                here = [number for number in members_of(reach) if number in before]
+                deed = [number for number in here if about == "" or about in before[number]]
                 edit = edit_of(told)
                 self.assertEqual(deed_set(book, edit, reach), set_of(deed))
                 came = {number: reckoned(before[number], told) for number in deed}

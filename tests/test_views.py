@@ -138,7 +138,8 @@ class Open(unittest.TestCase):
             panel = drawn_panel(rng)
             within = drawn_set(rng, panel) & panel.allowed() or panel.allowed()
             told = [panel.told(number) for number in members_of(within)]
-            expected = [word for place, (word, settings) in enumerate(panel.switches()) if len({one[place] for one in told}) > 1]
+            expected = [word for place,
+                        (word, settings) in enumerate(panel.switches()) if len({one[place] for one in told}) > 1]
             self.assertEqual(View(Book(panel), within).switches_open(), expected)
 
 

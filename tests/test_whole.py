@@ -5,8 +5,8 @@ import pathlib
 import random
 import unittest
 
-from helper import (about_of, drawn_book, drawn_panel, drawn_set, drawn_told, members_of, plain_of, reckoned, records_of,
-                    set_of)
+from helper import (about_of, drawn_book, drawn_panel, drawn_set, drawn_told, members_of, plain_of, reckoned, set_of,
+                    states_of)
 from manyleaf.book import Book, gathered
 from manyleaf.conds import read_cond, tell_cond, undecided
 from manyleaf.errors import EditError, NoPart, StandsOn, Unlike
@@ -17,10 +17,6 @@ from manyleaf.panel import Panel
 from manyleaf.reach import deed_set, edited, seen_alike
 from manyleaf.tuples import edit_of
 from manyleaf.views import View
-
-
-def states_of(book):
-    return {number: records_of(book.plain(number)) for number in members_of(book.panel.allowed())}
 
 
 def drawn_cases(seed, many, most=16):
@@ -172,7 +168,8 @@ class Pages(unittest.TestCase):
     def test_the_different_plain_books_are_told_each_with_its_first_choice(self):
         for rng, panel, book in drawn_cases(46, 80):
             states = states_of(book)
-            firsts = [number for number in states if all(states[other] != states[number] for other in states if other < number)]
+            ahead = {number: [states[other] for other in states if other < number] for number in states}
+            firsts = [number for number in states if states[number] not in ahead[number]]
             self.assertEqual([members_of(choices)[0] for choices in book.classes()], firsts)
             for choices in book.classes():
                 self.assertEqual(len({repr(sorted(states[number].items())) for number in members_of(choices)}), 1)

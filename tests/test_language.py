@@ -1,6 +1,6 @@
 """The package's files keep to LANGUAGE.md, as far as its rules can be seen in the form of the code.
 
-Not looked at here: L11 and what L23 says of changes in a loop; in part alone: L15 to L19, L24, L26, L27 and L28.
+Not looked at here: L11; in part alone: L13, L15 to L19, L22 to L24 and L26 to L28.
 """
 
 import ast
